@@ -1,0 +1,79 @@
+package scan
+
+import (
+	"math"
+	"slices"
+	"strings"
+	"testing"
+
+	"dioptre/api"
+	"dioptre/fault"
+	"dioptre/pack"
+)
+
+// check: what was read is that; the reader has that error, in the place where it stands.
+func check[T comparable](t *testing.T, name, b string, read func(r *pack.Reader) T, want T, code api.Errno, place int) {
+	t.Helper()
+	r := pack.NewReader([]byte("\x09" + b))
+	r.Byte()
+	if got := read(r); got != want {
+		t.Errorf("%s: %v, not %v", name, got, want)
+	}
+	if fault.Code(r.Err()) != code || r.At() != place || code != api.OK && !slices.Equal(fault.Places(r.Err()), []int{place}) {
+		t.Errorf("%s: %v, at %d, not %d at %d", name, r.Err(), r.At(), code, place)
+	}
+	if r.Err() == nil {
+		return
+	}
+	var none T
+	if got := read(r); got != none || fault.Code(r.Err()) != code || r.At() != place {
+		t.Errorf("%s: a broken reader tells %v, %v", name, got, r.Err())
+	}
+}
+
+// TestCount: ErrLong of more than most, behind it; package pack's own errors first.
+func TestCount(t *testing.T) {
+	eight := func(r *pack.Reader) int { return Count(r, 8) }
+	check(t, "0", "\x00\x09", eight, 0, api.OK, 2)
+	check(t, "8", "\x08\x09", eight, 8, api.OK, 2)
+	check(t, "9", "\x09\x09", eight, 0, api.ErrLong, 2)
+	check(t, "300", "\xac\x02", eight, 0, api.ErrLong, 3)
+	check(t, "the greatest", "\xff\xff\xff\xff\xff\xff\xff\xff\xff\x01", eight, 0, api.ErrLong, 11)
+	check(t, "none", "", eight, 0, api.ErrForm, 1)
+	check(t, "not short", "\x89\x00", eight, 0, api.ErrForm, 1)
+	check(t, "above", "\xff\xff\xff\xff\xff\xff\xff\xff\xff\x02", eight, 0, api.ErrForm, 1)
+}
+
+// TestWord: ErrForm of one that doesn't fit, behind it; package pack's own errors first.
+func TestWord(t *testing.T) {
+	short := func(r *pack.Reader) string {
+		return Word(r, func(s string) bool { return len(s) == 2 || len(s) == 64 })
+	}
+	long := strings.Repeat("x", 64)
+	check(t, "ab", "\x02ab\x09", short, "ab", api.OK, 4)
+	check(t, "64", "\x40"+long, short, long, api.OK, 66)
+	check(t, "abc", "\x03abc\x09", short, "", api.ErrForm, 5)
+	check(t, "empty", "\x00\x09", short, "", api.ErrForm, 2)
+	check(t, "65", "\x41x"+long, short, "", api.ErrLong, 1)
+	check(t, "fewer left", "\x03ab", short, "", api.ErrForm, 1)
+	check(t, "none", "", short, "", api.ErrForm, 1)
+}
+
+// TestNumber: ErrForm of one that doesn't fit, behind it; package pack's own errors first.
+func TestNumber(t *testing.T) {
+	odd := func(r *pack.Reader) uint64 { return Number(r, func(n uint64) bool { return n%2 == 1 }) }
+	check(t, "5", "\x05\x09", odd, 5, api.OK, 2)
+	check(t, "the greatest", "\xff\xff\xff\xff\xff\xff\xff\xff\xff\x01", odd, math.MaxUint64, api.OK, 11)
+	check(t, "6", "\x06\x09", odd, 0, api.ErrForm, 2)
+	check(t, "300", "\xac\x02\x09", odd, 0, api.ErrForm, 3)
+	check(t, "0", "\x00", odd, 0, api.ErrForm, 2)
+	check(t, "not short", "\x85\x00", odd, 0, api.ErrForm, 1)
+	check(t, "none", "", odd, 0, api.ErrForm, 1)
+}
+
+// TestNil: no call panics.
+func TestNil(t *testing.T) {
+	if Count(nil, 8) != 0 || Word(nil, func(string) bool { return false }) != "" || Number(nil, func(uint64) bool { return true }) != 0 {
+		t.Error("of a nil reader")
+	}
+}

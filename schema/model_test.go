@@ -1,0 +1,341 @@
+package schema
+
+import (
+	"encoding/binary"
+	"math/rand/v2"
+	"reflect"
+	"regexp"
+	"slices"
+	"strings"
+	"testing"
+
+	"dioptre/api"
+	"dioptre/fault"
+)
+
+// chance makes numbers, always the same ones.
+func chance() *rand.Rand { return rand.New(rand.NewPCG(9, 2026)) }
+
+func of(kind int) api.Schema { return api.Schema{Kind: kind} }
+
+func enum(words ...string) api.Schema { return api.Schema{Kind: api.Enum, Words: words} }
+
+func list(part api.Schema) api.Schema {
+	return api.Schema{Kind: api.List, Parts: []api.Schema{part}}
+}
+
+func record(names []string, parts ...api.Schema) api.Schema {
+	return api.Schema{Kind: api.Record, Words: names, Parts: parts}
+}
+
+// inLists is a schema within so many lists.
+func inLists(s api.Schema, n int) api.Schema {
+	for range n {
+		s = list(s)
+	}
+	return s
+}
+
+// inRecords is a schema within so many records.
+func inRecords(s api.Schema, n int) api.Schema {
+	for range n {
+		s = record([]string{"a"}, s)
+	}
+	return s
+}
+
+// plain is a schema none of whose lists is empty but not nil.
+func plain(s api.Schema) api.Schema {
+	s.Words = slices.Clone(s.Words)
+	if len(s.Words) == 0 {
+		s.Words = nil
+	}
+	var l []api.Schema
+	for _, x := range s.Parts {
+		l = append(l, plain(x))
+	}
+	s.Parts = l
+	return s
+}
+
+// equal holds two schemas against each other by the library's means.
+func equal(a, b api.Schema) bool { return reflect.DeepEqual(plain(a), plain(b)) }
+
+var nameForm = regexp.MustCompile(`\A[a-z0-9_]{1,12}\z`)
+
+// wantRight: whether a schema is right, by the chapter's words.
+func wantRight(s api.Schema) bool {
+	ok := false
+	switch s.Kind {
+	case api.Bool, api.Int, api.Text:
+		ok = len(s.Words) == 0 && len(s.Parts) == 0
+	case api.Enum:
+		ok = len(s.Words) > 0 && len(s.Words) < 9 && len(s.Parts) == 0
+		seen := map[string]bool{}
+		for _, word := range s.Words {
+			ok = ok && !seen[word]
+			seen[word] = true
+		}
+	case api.Record:
+		ok = len(s.Words) < 9 && len(s.Parts) == len(s.Words) && slices.IsSorted(s.Words)
+		for i := range len(s.Words) - 1 {
+			ok = ok && s.Words[i] != s.Words[i+1]
+		}
+	case api.List:
+		ok = len(s.Words) == 0 && len(s.Parts) == 1
+	}
+	for _, word := range s.Words {
+		ok = ok && nameForm.MatchString(word)
+	}
+	for _, x := range s.Parts {
+		ok = ok && wantRight(x)
+	}
+	return ok && wantDepth(s) < 6
+}
+
+func wantDepth(s api.Schema) int {
+	deepest := 0
+	for _, x := range s.Parts {
+		deepest = max(deepest, wantDepth(x))
+	}
+	return deepest + 1
+}
+
+// wrong is the first error, and its place.
+type wrong struct {
+	code  api.Errno
+	place int
+}
+
+// model reads by the chapter's words, and panics with what is wrong.
+type model struct {
+	b  []byte
+	at int
+}
+
+func (m *model) ask(ok bool, code api.Errno, place int) {
+	if !ok {
+		panic(wrong{code, place})
+	}
+}
+
+func (m *model) number() uint64 {
+	n, size := binary.Uvarint(m.b[m.at:])
+	m.ask(size > 0 && size == len(binary.AppendUvarint(nil, n)), api.ErrForm, m.at)
+	m.at += size
+	return n
+}
+
+func (m *model) name() string {
+	start := m.at
+	n := m.number()
+	m.ask(n < 65, api.ErrLong, start)
+	m.ask(int(n) <= len(m.b)-m.at, api.ErrForm, start)
+	m.at += int(n)
+	s := string(m.b[m.at-int(n) : m.at])
+	m.ask(nameForm.MatchString(s), api.ErrForm, m.at)
+	return s
+}
+
+func (m *model) schema(depth int) api.Schema {
+	m.ask(depth < 6, api.ErrDeep, m.at)
+	m.ask(m.at < len(m.b), api.ErrForm, m.at)
+	s := api.Schema{Kind: int(m.b[m.at])}
+	m.at++
+	m.ask(s.Kind > 0 && s.Kind < 7, api.ErrKind, m.at)
+	if s.Kind == api.List {
+		s.Parts = append(s.Parts, m.schema(depth+1))
+	}
+	if s.Kind != api.Enum && s.Kind != api.Record {
+		return s
+	}
+	n := m.number()
+	m.ask(n < 9, api.ErrLong, m.at)
+	m.ask(n > 0 || s.Kind == api.Record, api.ErrForm, m.at)
+	for i := range int(n) {
+		word := m.name()
+		if s.Kind == api.Enum {
+			m.ask(!slices.Contains(s.Words, word), api.ErrForm, m.at)
+		} else {
+			m.ask(i == 0 || s.Words[i-1] < word, api.ErrForm, m.at)
+			s.Parts = append(s.Parts, m.schema(depth+1))
+		}
+		s.Words = append(s.Words, word)
+	}
+	return s
+}
+
+// wantRead is the schema at the beginning of bytes, and how many it has; or what is wrong.
+func wantRead(b []byte) (s api.Schema, size int, w wrong) {
+	defer func() {
+		if e := recover(); e != nil {
+			s, size, w = api.Schema{}, 0, e.(wrong)
+		}
+	}()
+	m := &model{b: b}
+	s = m.schema(1)
+	return s, m.at, wrong{}
+}
+
+// checkError: the error has that number, and just that place; none, if that is below 0.
+func checkError(t *testing.T, name string, e error, code api.Errno, place int) {
+	t.Helper()
+	var places []int
+	if place >= 0 {
+		places = []int{place}
+	}
+	if fault.Code(e) != code || !slices.Equal(fault.Places(e), places) || (e == nil) != (code == api.OK) {
+		t.Errorf("%s: %v, not %d in %v", name, e, code, places)
+	}
+}
+
+// someName is a name; many are alike, or stand close to each other.
+func someName(r *rand.Rand) string {
+	const letters = "ab09_z"
+	b := make([]byte, 1+r.IntN(2))
+	for i := range b {
+		b[i] = letters[r.IntN(len(letters))]
+	}
+	return string(b)
+}
+
+// someNames are as many unlike names.
+func someNames(r *rand.Rand, n int) []string {
+	var l []string
+	for len(l) < n {
+		if s := someName(r); !slices.Contains(l, s) {
+			l = append(l, s)
+		}
+	}
+	return l
+}
+
+// someSchema is a right schema, at most so deep.
+func someSchema(r *rand.Rand, deep int) api.Schema {
+	kinds := 6
+	if deep == 1 {
+		kinds = 4
+	}
+	s := of(1 + r.IntN(kinds))
+	switch s.Kind {
+	case api.Enum:
+		s.Words = someNames(r, 1+r.IntN(8))
+	case api.Record:
+		s.Words = slices.Sorted(slices.Values(someNames(r, r.IntN(4))))
+		for range s.Words {
+			s.Parts = append(s.Parts, someSchema(r, deep-1))
+		}
+	case api.List:
+		s.Parts = append(s.Parts, someSchema(r, deep-1))
+	}
+	return s
+}
+
+// someFitting is a value that fits a right schema.
+func someFitting(r *rand.Rand, s api.Schema) api.Value {
+	v := api.Value{Kind: s.Kind}
+	switch s.Kind {
+	case api.Bool:
+		v.N = r.IntN(2)
+	case api.Int:
+		v.N = int(r.Uint64()) >> r.IntN(64)
+	case api.Text:
+		v.S = strings.Repeat("x", r.IntN(65))
+	case api.Enum:
+		v.S = s.Words[r.IntN(len(s.Words))]
+	case api.Record:
+		v.Names = slices.Clone(s.Words)
+		for _, part := range s.Parts {
+			v.Parts = append(v.Parts, someFitting(r, part))
+		}
+	case api.List:
+		for i := range r.IntN(5) {
+			v.Ids, v.Parts = append(v.Ids, uint64(9-i)), append(v.Parts, someFitting(r, s.Parts[0]))
+		}
+	}
+	return v
+}
+
+// spoil changes something in a schema, itself or one of its parts: mostly it isn't right then.
+func spoil(r *rand.Rand, s *api.Schema) {
+	if len(s.Parts) > 0 && r.IntN(3) > 0 {
+		spoil(r, &s.Parts[r.IntN(len(s.Parts))])
+		return
+	}
+	switch r.IntN(8) {
+	case 0:
+		s.Kind = r.IntN(9) - 1
+	case 1:
+		s.Words = append(s.Words, someName(r))
+	case 2:
+		s.Parts = append(s.Parts, of(1+r.IntN(3)))
+	case 3:
+		s.Words, s.Parts = append(s.Words, someName(r)), append(s.Parts, of(api.Int))
+	case 4:
+		s.Words = append(s.Words, []string{"", "A", "abcdefghijklm", "a b"}[r.IntN(4)])
+	case 5:
+		s.Parts = s.Parts[:len(s.Parts)/2]
+	case 6:
+		*s = inLists(*s, 1+r.IntN(3))
+	default:
+		slices.Reverse(s.Words)
+	}
+}
+
+// roomy is the same schema, whose lists have spare room in which something stands.
+func roomy(s api.Schema) api.Schema {
+	s.Words = append(slices.Clone(s.Words), "spare", "room")[:len(s.Words)]
+	var l []api.Schema
+	for _, x := range s.Parts {
+		l = append(l, roomy(x))
+	}
+	s.Parts = append(l, of(98), of(99))[:len(l)]
+	return s
+}
+
+// whole is a copy of a schema with its spare room.
+func whole(s api.Schema) api.Schema {
+	s.Words = slices.Clone(s.Words[:cap(s.Words)])
+	var l []api.Schema
+	for _, x := range s.Parts[:cap(s.Parts)] {
+		l = append(l, whole(x))
+	}
+	s.Parts = l
+	return s
+}
+
+// scramble overwrites all that a schema's lists hold, their spare room, too.
+func scramble(s api.Schema) {
+	for i := range s.Words[:cap(s.Words)] {
+		s.Words[:cap(s.Words)][i] = "scrambled"
+	}
+	for i, x := range s.Parts[:cap(s.Parts)] {
+		scramble(x)
+		s.Parts[:cap(s.Parts)][i] = of(77)
+	}
+}
+
+// checkOwn: a call changes nothing that is handed in, and its answer shares nothing with that.
+func checkOwn(t *testing.T, name string, s, x api.Schema, call func(s, x api.Schema) api.Schema) {
+	t.Helper()
+	s, x = roomy(s), roomy(x)
+	wholeS, wholeX := whole(s), whole(x)
+	unchanged := func() bool {
+		return reflect.DeepEqual(whole(s), wholeS) && reflect.DeepEqual(whole(x), wholeX)
+	}
+	got := call(s, x)
+	if !unchanged() {
+		t.Errorf("%s: what is handed in has changed: %v %v", name, s, x)
+	}
+	scramble(got)
+	if !unchanged() {
+		t.Errorf("%s: the answer shares with what is handed in: %v %v", name, s, x)
+	}
+	got = call(s, x)
+	kept := plain(got)
+	scramble(s)
+	scramble(x)
+	if !equal(got, kept) {
+		t.Errorf("%s: what is handed in is kept: %v, not %v", name, got, kept)
+	}
+}

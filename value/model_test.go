@@ -1,0 +1,383 @@
+package value
+
+import (
+	"encoding/binary"
+	"math/rand/v2"
+	"reflect"
+	"regexp"
+	"slices"
+	"strings"
+	"testing"
+
+	"dioptre/api"
+	"dioptre/fault"
+)
+
+// chance makes numbers, always the same ones.
+func chance() *rand.Rand { return rand.New(rand.NewPCG(8, 2026)) }
+
+func num(n int) api.Value     { return api.Value{Kind: api.Int, N: n} }
+func text(s string) api.Value { return api.Value{Kind: api.Text, S: s} }
+func word(s string) api.Value { return api.Value{Kind: api.Enum, S: s} }
+
+func truth(n int) api.Value { return api.Value{Kind: api.Bool, N: n} }
+
+func record(names []string, parts ...api.Value) api.Value {
+	return api.Value{Kind: api.Record, Names: names, Parts: parts}
+}
+
+func list(ids []uint64, parts ...api.Value) api.Value {
+	return api.Value{Kind: api.List, Ids: ids, Parts: parts}
+}
+
+// inLists is a value within so many lists.
+func inLists(v api.Value, n int) api.Value {
+	for range n {
+		v = list([]uint64{1}, v)
+	}
+	return v
+}
+
+// inRecords is a value within so many records.
+func inRecords(v api.Value, n int) api.Value {
+	for range n {
+		v = record([]string{"a"}, v)
+	}
+	return v
+}
+
+// plain is a value none of whose lists is empty but not nil.
+func plain(v api.Value) api.Value {
+	v.Names, v.Ids = slices.Clone(v.Names), slices.Clone(v.Ids)
+	if len(v.Names) == 0 {
+		v.Names = nil
+	}
+	if len(v.Ids) == 0 {
+		v.Ids = nil
+	}
+	var l []api.Value
+	for _, x := range v.Parts {
+		l = append(l, plain(x))
+	}
+	v.Parts = l
+	return v
+}
+
+// equal holds two values against each other by the library's means.
+func equal(a, b api.Value) bool { return reflect.DeepEqual(plain(a), plain(b)) }
+
+var nameForm = regexp.MustCompile(`\A[a-z0-9_]{1,12}\z`)
+
+// wantRight: whether a value is right, by the chapter's words.
+func wantRight(v api.Value) bool {
+	want := api.Value{Kind: v.Kind}
+	ok := false
+	switch v.Kind {
+	case api.Bool:
+		want.N, ok = v.N, v.N == 0 || v.N == 1
+	case api.Int:
+		want.N, ok = v.N, true
+	case api.Text:
+		want.S, ok = v.S, len(v.S) < 65
+	case api.Enum:
+		want.S, ok = v.S, nameForm.MatchString(v.S)
+	case api.Record:
+		want.Names, want.Parts = v.Names, v.Parts
+		ok = len(v.Names) < 9 && len(v.Parts) == len(v.Names)
+		for i, name := range v.Names {
+			ok = ok && nameForm.MatchString(name) && (i == 0 || strings.Compare(v.Names[i-1], name) < 0)
+		}
+	case api.List:
+		want.Ids, want.Parts = v.Ids, v.Parts
+		ok = len(v.Ids) < 13 && len(v.Parts) == len(v.Ids)
+		seen := map[uint64]bool{0: true}
+		for _, id := range v.Ids {
+			ok = ok && !seen[id]
+			seen[id] = true
+		}
+	}
+	for _, x := range v.Parts {
+		ok = ok && wantRight(x)
+	}
+	return ok && equal(v, want) && wantDepth(v) < 6
+}
+
+func wantDepth(v api.Value) int {
+	deepest := 0
+	for _, x := range v.Parts {
+		deepest = max(deepest, wantDepth(x))
+	}
+	return deepest + 1
+}
+
+func wantSize(v api.Value) int {
+	size := 1
+	for _, x := range v.Parts {
+		size += wantSize(x)
+	}
+	return size
+}
+
+// wrong is the first error, and its place.
+type wrong struct {
+	code  api.Errno
+	place int
+}
+
+// model reads by the chapter's words, and panics with what is wrong.
+type model struct {
+	b  []byte
+	at int
+}
+
+func (m *model) ask(ok bool, code api.Errno, place int) {
+	if !ok {
+		panic(wrong{code, place})
+	}
+}
+
+func (m *model) byte() byte {
+	m.ask(m.at < len(m.b), api.ErrForm, m.at)
+	m.at++
+	return m.b[m.at-1]
+}
+
+func (m *model) number() uint64 {
+	n, size := binary.Uvarint(m.b[m.at:])
+	m.ask(size > 0 && size == len(binary.AppendUvarint(nil, n)), api.ErrForm, m.at)
+	m.at += size
+	return n
+}
+
+func (m *model) text() string {
+	start := m.at
+	n := m.number()
+	m.ask(n < 65, api.ErrLong, start)
+	m.ask(int(n) <= len(m.b)-m.at, api.ErrForm, start)
+	m.at += int(n)
+	return string(m.b[m.at-int(n) : m.at])
+}
+
+func (m *model) name() string {
+	s := m.text()
+	m.ask(nameForm.MatchString(s), api.ErrForm, m.at)
+	return s
+}
+
+func (m *model) value(depth int) api.Value {
+	m.ask(depth < 6, api.ErrDeep, m.at)
+	v := api.Value{Kind: int(m.byte())}
+	m.ask(v.Kind > 0 && v.Kind < 7, api.ErrKind, m.at)
+	switch v.Kind {
+	case api.Bool:
+		v.N = int(m.byte())
+		m.ask(v.N < 2, api.ErrForm, m.at-1)
+	case api.Int:
+		n := m.number()
+		v.N = int(n>>1) ^ -int(n&1)
+	case api.Text:
+		v.S = m.text()
+	case api.Enum:
+		v.S = m.name()
+	case api.Record:
+		m.record(&v, depth)
+	case api.List:
+		m.list(&v, depth)
+	}
+	return v
+}
+
+func (m *model) record(v *api.Value, depth int) {
+	n := m.number()
+	m.ask(n < 9, api.ErrLong, m.at)
+	for i := range int(n) {
+		v.Names = append(v.Names, m.name())
+		m.ask(i == 0 || v.Names[i-1] < v.Names[i], api.ErrForm, m.at)
+		v.Parts = append(v.Parts, m.value(depth+1))
+	}
+}
+
+func (m *model) list(v *api.Value, depth int) {
+	n := m.number()
+	m.ask(n < 13, api.ErrLong, m.at)
+	for range n {
+		id := m.number()
+		m.ask(id > 0 && !slices.Contains(v.Ids, id), api.ErrForm, m.at)
+		v.Ids = append(v.Ids, id)
+		v.Parts = append(v.Parts, m.value(depth+1))
+	}
+}
+
+// wantRead is the value at the beginning of bytes, and how many it has; or what is wrong.
+func wantRead(b []byte) (v api.Value, size int, w wrong) {
+	defer func() {
+		if e := recover(); e != nil {
+			v, size, w = api.Value{}, 0, e.(wrong)
+		}
+	}()
+	m := &model{b: b}
+	v = m.value(1)
+	return v, m.at, wrong{}
+}
+
+// checkError: the error has that number, and just that place; none, if that is below 0.
+func checkError(t *testing.T, name string, e error, code api.Errno, place int) {
+	t.Helper()
+	var places []int
+	if place >= 0 {
+		places = []int{place}
+	}
+	if fault.Code(e) != code || !slices.Equal(fault.Places(e), places) || (e == nil) != (code == api.OK) {
+		t.Errorf("%s: %v, not %d in %v", name, e, code, places)
+	}
+}
+
+// someName is a name; many are alike, or stand close to each other.
+func someName(r *rand.Rand) string {
+	const letters = "ab09_z"
+	b := make([]byte, 1+r.IntN(2))
+	if r.IntN(20) == 0 {
+		b = make([]byte, 12)
+	}
+	for i := range b {
+		b[i] = letters[r.IntN(len(letters))]
+	}
+	return string(b)
+}
+
+// someNames are as many names, rising.
+func someNames(r *rand.Rand, n int) []string {
+	var l []string
+	for len(l) < n {
+		l = append(l, someName(r))
+		slices.Sort(l)
+		l = slices.Compact(l)
+	}
+	return l
+}
+
+// someValue is a right value, at most so deep.
+func someValue(r *rand.Rand, deep int) api.Value {
+	kinds := 6
+	if deep == 1 {
+		kinds = 4
+	}
+	switch 1 + r.IntN(kinds) {
+	case api.Bool:
+		return truth(r.IntN(2))
+	case api.Int:
+		return num(int(r.Uint64()) >> r.IntN(64))
+	case api.Text:
+		return text(strings.Repeat(string([]byte{byte(r.Uint32())}), r.IntN(5)))
+	case api.Enum:
+		return word(someName(r))
+	case api.Record:
+		v := api.Value{Kind: api.Record, Names: someNames(r, r.IntN(4))}
+		for range v.Names {
+			v.Parts = append(v.Parts, someValue(r, deep-1))
+		}
+		return v
+	}
+	v := api.Value{Kind: api.List}
+	for i := range r.IntN(4) {
+		v.Ids = append(v.Ids, uint64(4*i)+1+r.Uint64N(4))
+		v.Parts = append(v.Parts, someValue(r, deep-1))
+	}
+	return v
+}
+
+// spoil changes something in a value, itself or one of its parts: mostly it isn't right then.
+func spoil(r *rand.Rand, v *api.Value) {
+	if len(v.Parts) > 0 && r.IntN(3) > 0 {
+		spoil(r, &v.Parts[r.IntN(len(v.Parts))])
+		return
+	}
+	switch r.IntN(12) {
+	case 0:
+		v.Kind = r.IntN(9) - 1
+	case 1:
+		v.N = r.IntN(5) - 2
+	case 2:
+		v.S = []string{"", "a", "A", "abcdefghijklm", strings.Repeat("x", 64), strings.Repeat("x", 65)}[r.IntN(6)]
+	case 3:
+		v.Names = append(v.Names, someName(r))
+	case 4:
+		v.Ids = append(v.Ids, r.Uint64N(6))
+	case 5:
+		v.Parts = append(v.Parts, num(1))
+	case 6:
+		v.Names, v.Parts = append(v.Names, someName(r)), append(v.Parts, num(2))
+	case 7:
+		v.Ids, v.Parts = append(v.Ids, r.Uint64N(16)), append(v.Parts, num(2))
+	case 8:
+		v.Parts = v.Parts[:len(v.Parts)/2]
+	case 9:
+		*v = inLists(*v, 1+r.IntN(3))
+	case 10:
+		slices.Reverse(v.Names)
+	default:
+		slices.Reverse(v.Ids)
+	}
+}
+
+// roomy is the same value, whose lists have spare room in which something stands.
+func roomy(v api.Value) api.Value {
+	v.Names = append(slices.Clone(v.Names), "spare", "room")[:len(v.Names)]
+	v.Ids = append(slices.Clone(v.Ids), 98, 99)[:len(v.Ids)]
+	var l []api.Value
+	for _, x := range v.Parts {
+		l = append(l, roomy(x))
+	}
+	v.Parts = append(l, num(98), num(99))[:len(l)]
+	return v
+}
+
+// whole is a copy of a value with its spare room.
+func whole(v api.Value) api.Value {
+	v.Names, v.Ids = slices.Clone(v.Names[:cap(v.Names)]), slices.Clone(v.Ids[:cap(v.Ids)])
+	var l []api.Value
+	for _, x := range v.Parts[:cap(v.Parts)] {
+		l = append(l, whole(x))
+	}
+	v.Parts = l
+	return v
+}
+
+// scramble overwrites all that a value's lists hold, their spare room, too.
+func scramble(v api.Value) {
+	for i := range v.Names[:cap(v.Names)] {
+		v.Names[:cap(v.Names)][i] = "scrambled"
+	}
+	for i := range v.Ids[:cap(v.Ids)] {
+		v.Ids[:cap(v.Ids)][i] = 77
+	}
+	for i, x := range v.Parts[:cap(v.Parts)] {
+		scramble(x)
+		v.Parts[:cap(v.Parts)][i] = num(77)
+	}
+}
+
+// checkOwn: a call changes nothing that is handed in, and its answer shares nothing with that.
+func checkOwn(t *testing.T, name string, v, x api.Value, call func(v, x api.Value) api.Value) {
+	t.Helper()
+	v, x = roomy(v), roomy(x)
+	wholeV, wholeX := whole(v), whole(x)
+	unchanged := func() bool {
+		return reflect.DeepEqual(whole(v), wholeV) && reflect.DeepEqual(whole(x), wholeX)
+	}
+	got := call(v, x)
+	if !unchanged() {
+		t.Errorf("%s: what is handed in has changed: %v %v", name, v, x)
+	}
+	scramble(got)
+	if !unchanged() {
+		t.Errorf("%s: the answer shares with what is handed in: %v %v", name, v, x)
+	}
+	got = call(v, x)
+	kept := plain(got)
+	scramble(v)
+	scramble(x)
+	if !equal(got, kept) {
+		t.Errorf("%s: what is handed in is kept: %v, not %v", name, got, kept)
+	}
+}
