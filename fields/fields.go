@@ -67,6 +67,15 @@ func Find(names []string, name string) int {
 	return slices.IndexFunc(names, func(s string) bool { return s == name })
 }
 
+// Part is the part of the first field of that name; nil, if there is none, or there are fewer parts than names.
+func Part[T any](names []string, parts []T, name string) *T {
+	i := Find(names, name)
+	if i < 0 || len(parts) < len(names) {
+		return nil
+	}
+	return &parts[i]
+}
+
 // With lays a part into fields that the caller owns: in the place of the first one of that name, or, where there is none, ahead of the first one whose name is behind it.
 func With[T any](names []string, parts []T, name string, x T) ([]string, []T) {
 	if i := Find(names, name); i >= 0 {

@@ -91,6 +91,23 @@ func TestFind(t *testing.T) {
 	}
 }
 
+// TestPart: the part of the first one, where there are no fewer parts than names; it is the part itself.
+func TestPart(t *testing.T) {
+	for _, c := range []struct {
+		names, parts, name string
+		want               int
+	}{
+		{"b a b", "123", "b", 0}, {"b a b", "123", "a", 1}, {"b a b", "123", "c", -1}, {"b a b", "123", "", -1},
+		{"b a", "123", "a", 1}, {"b a", "1", "b", -1}, {"b a", "1", "a", -1}, {"b a", "", "a", -1}, {"", "1", "a", -1}, {"", "", "a", -1},
+	} {
+		parts := []byte(c.parts)
+		got := Part(strings.Fields(c.names), parts, c.name)
+		if c.want < 0 && got != nil || c.want >= 0 && got != &parts[c.want] {
+			t.Errorf("Part(%q, %s, %q): not %d", c.names, c.parts, c.name, c.want)
+		}
+	}
+}
+
 // TestWith: in the place of the first one of that name, or ahead of the first one behind it; parts without names stay behind.
 func TestWith(t *testing.T) {
 	for _, c := range []struct {

@@ -12,14 +12,14 @@ func named(s api.Schema) bool {
 
 // Field is a field's part.
 func Field(s api.Schema, name string) (api.Schema, bool) {
-	if !named(s) {
+	if s.Kind != api.Record {
 		return api.Schema{}, false
 	}
-	i := fields.Find(s.Words, name)
-	if i < 0 {
+	x := fields.Part(s.Words, s.Parts, name)
+	if x == nil {
 		return api.Schema{}, false
 	}
-	return Copy(s.Parts[i]), true
+	return Copy(*x), true
 }
 
 // With is a record with a field.

@@ -12,14 +12,14 @@ func named(v api.Value) bool {
 
 // Field is a field's part.
 func Field(v api.Value, name string) (api.Value, bool) {
-	if !named(v) {
+	if v.Kind != api.Record {
 		return api.Value{}, false
 	}
-	i := fields.Find(v.Names, name)
-	if i < 0 {
+	x := fields.Part(v.Names, v.Parts, name)
+	if x == nil {
 		return api.Value{}, false
 	}
-	return Copy(v.Parts[i]), true
+	return Copy(*x), true
 }
 
 // With is a record with a field.
