@@ -11,35 +11,18 @@ import (
 
 	"dioptre/api"
 	"dioptre/fault"
+	"dioptre/sample"
 	"dioptre/value"
 )
 
 // chance makes numbers, always the same ones.
 func chance() *rand.Rand { return rand.New(rand.NewPCG(11, 2026)) }
 
-func num(n int) api.Value { return api.Value{Kind: api.Int, N: n} }
-
-func quote(s string) api.Value { return api.Value{Kind: api.Text, S: s} }
-
-func word(s string) api.Value { return api.Value{Kind: api.Enum, S: s} }
-
-func truth(n int) api.Value { return api.Value{Kind: api.Bool, N: n} }
-
-func record(names []string, parts ...api.Value) api.Value {
-	return api.Value{Kind: api.Record, Names: names, Parts: parts}
-}
-
-func list(ids []uint64, parts ...api.Value) api.Value {
-	return api.Value{Kind: api.List, Ids: ids, Parts: parts}
-}
-
-// inLists is a value within so many lists.
-func inLists(v api.Value, n int) api.Value {
-	for range n {
-		v = list([]uint64{1}, v)
-	}
-	return v
-}
+// What the tests are made of.
+var (
+	num, truth, quote, word = sample.Num, sample.Truth, sample.Text, sample.Word
+	record, list, inLists   = sample.Record, sample.List, sample.InLists
+)
 
 // wantText is a right value's text, by the chapter's words.
 func wantText(v api.Value) string {

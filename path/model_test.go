@@ -11,6 +11,7 @@ import (
 
 	"dioptre/api"
 	"dioptre/fault"
+	"dioptre/sample"
 	"dioptre/schema"
 	"dioptre/value"
 )
@@ -18,15 +19,12 @@ import (
 // chance makes numbers, always the same ones.
 func chance() *rand.Rand { return rand.New(rand.NewPCG(10, 2026)) }
 
-func num(n int) api.Value { return api.Value{Kind: api.Int, N: n} }
-
-func record(names []string, parts ...api.Value) api.Value {
-	return api.Value{Kind: api.Record, Names: names, Parts: parts}
-}
-
-func list(ids []uint64, parts ...api.Value) api.Value {
-	return api.Value{Kind: api.List, Ids: ids, Parts: parts}
-}
+// What the tests are made of.
+var (
+	num, record, list, inLists = sample.Num, sample.Record, sample.List, sample.InLists
+	roomy, whole, scramble     = sample.Roomy, sample.Whole, sample.Scramble
+	steps, spare               = sample.Steps, sample.RoomyPath
+)
 
 func of(kind int) api.Schema { return api.Schema{Kind: kind} }
 
@@ -34,32 +32,6 @@ func listOf(parts ...api.Schema) api.Schema { return api.Schema{Kind: api.List, 
 
 func recordOf(words []string, parts ...api.Schema) api.Schema {
 	return api.Schema{Kind: api.Record, Words: words, Parts: parts}
-}
-
-// inLists is a value within so many lists.
-func inLists(v api.Value, n int) api.Value {
-	for range n {
-		v = list([]uint64{1}, v)
-	}
-	return v
-}
-
-// steps is a path of names (texts) and numbers.
-func steps(l ...any) []api.Step {
-	var p []api.Step
-	for _, x := range l {
-		switch x := x.(type) {
-		case string:
-			p = append(p, api.Step{Name: x})
-		case int:
-			p = append(p, api.Step{Id: uint64(x)})
-		case uint64:
-			p = append(p, api.Step{Id: x})
-		case api.Step:
-			p = append(p, x)
-		}
-	}
-	return p
 }
 
 // samePaths holds lists of paths against each other.
@@ -307,48 +279,6 @@ func someSchema(r *rand.Rand, deep int) api.Schema {
 		s.Kind, s.Words, s.Parts = r.IntN(8), append(s.Words, someName(r)), append(s.Parts, of(1+r.IntN(3)))
 	}
 	return s
-}
-
-// roomy is the same value, whose lists have spare room in which something stands.
-func roomy(v api.Value) api.Value {
-	v.Names = append(slices.Clone(v.Names), "spare", "room")[:len(v.Names)]
-	v.Ids = append(slices.Clone(v.Ids), 98, 99)[:len(v.Ids)]
-	var l []api.Value
-	for _, x := range v.Parts {
-		l = append(l, roomy(x))
-	}
-	v.Parts = append(l, num(98), num(99))[:len(l)]
-	return v
-}
-
-// whole is a copy of a value with its spare room.
-func whole(v api.Value) api.Value {
-	v.Names, v.Ids = slices.Clone(v.Names[:cap(v.Names)]), slices.Clone(v.Ids[:cap(v.Ids)])
-	var l []api.Value
-	for _, x := range v.Parts[:cap(v.Parts)] {
-		l = append(l, whole(x))
-	}
-	v.Parts = l
-	return v
-}
-
-// scramble overwrites all that a value's lists hold, their spare room, too.
-func scramble(v api.Value) {
-	for i := range v.Names[:cap(v.Names)] {
-		v.Names[:cap(v.Names)][i] = "scrambled"
-	}
-	for i := range v.Ids[:cap(v.Ids)] {
-		v.Ids[:cap(v.Ids)][i] = 77
-	}
-	for i, x := range v.Parts[:cap(v.Parts)] {
-		scramble(x)
-		v.Parts[:cap(v.Parts)][i] = num(77)
-	}
-}
-
-// spare is the same path, with spare room in which something stands.
-func spare(p []api.Step) []api.Step {
-	return append(slices.Clone(p), api.Step{Name: "spare"}, api.Step{Id: 99})[:len(p)]
 }
 
 // checkOwn: a call changes nothing that is handed in, and its answer shares nothing with that.

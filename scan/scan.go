@@ -1,4 +1,4 @@
-// Package scan reads what fields of several layers have in common: how many things come, and words and numbers of which more is asked than package pack does. What is wrong with them is told behind them.
+// Package scan reads what several layers have in common: how many things come, and words and numbers of which more is asked than package pack does (what is wrong with them is told behind them); and bytes as a whole.
 package scan
 
 import (
@@ -36,4 +36,18 @@ func asked[T any](r *pack.Reader, x T, fits func(x T) bool) T {
 		return none
 	}
 	return x
+}
+
+// Whole is what all these bytes tell: ErrLong of more than MaxBytes, or what is wrong with them.
+func Whole[T any](b []byte, read func(r *pack.Reader) T) (T, error) {
+	var none T
+	if len(b) > api.MaxBytes {
+		return none, api.ErrLong
+	}
+	r := pack.NewReader(b)
+	x := read(r)
+	if e := r.End(); e != nil {
+		return none, e
+	}
+	return x, nil
 }

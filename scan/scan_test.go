@@ -77,3 +77,31 @@ func TestNil(t *testing.T) {
 		t.Error("of a nil reader")
 	}
 }
+
+// TestWhole: all bytes are read, at most MaxBytes; what is wrong with them in its place, too many without one.
+func TestWhole(t *testing.T) {
+	text := func(r *pack.Reader) string { return r.Text(5000) }
+	sized := func(n int) string {
+		return string([]byte{byte(n-2)&0x7f | 0x80, byte((n - 2) >> 7)}) + strings.Repeat("x", n-2)
+	}
+	for _, c := range []struct {
+		name, b, want string
+		code          api.Errno
+		places        []int
+	}{
+		{"ab", "\x02ab", "ab", api.OK, nil},
+		{"4096", sized(4096), sized(4096)[2:], api.OK, nil},
+		{"4097", sized(4097), "", api.ErrLong, nil},
+		{"4097, others left", "\x02ab" + strings.Repeat("x", 4094), "", api.ErrLong, nil},
+		{"4096, others left", "\x02ab" + strings.Repeat("x", 4093), "", api.ErrForm, []int{3}},
+		{"one left", "\x02ab\x00", "", api.ErrForm, []int{3}},
+		{"fewer", "\x02a", "", api.ErrForm, []int{0}},
+		{"none", "", "", api.ErrForm, []int{0}},
+		{"what is wrong ahead of what is left", "\x80\x00\x00", "", api.ErrForm, []int{0}},
+	} {
+		got, e := Whole([]byte(c.b), text)
+		if got != c.want || fault.Code(e) != c.code || !slices.Equal(fault.Places(e), c.places) {
+			t.Errorf("%s: %q %v", c.name, got, e)
+		}
+	}
+}

@@ -38,17 +38,7 @@ func write(w *pack.Writer, s api.Schema) {
 }
 
 // Decode is the schema of bytes.
-func Decode(b []byte) (api.Schema, error) {
-	if len(b) > api.MaxBytes {
-		return api.Schema{}, api.ErrLong
-	}
-	r := pack.NewReader(b)
-	s := Read(r)
-	if e := r.End(); e != nil {
-		return api.Schema{}, e
-	}
-	return s, nil
-}
+func Decode(b []byte) (api.Schema, error) { return scan.Whole(b, Read) }
 
 // Read reads a schema.
 func Read(r *pack.Reader) api.Schema {

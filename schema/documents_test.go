@@ -7,17 +7,15 @@ import (
 	"testing"
 
 	"dioptre/api"
+	"dioptre/sample"
 	"dioptre/value"
 )
 
-func num(n int) api.Value     { return api.Value{Kind: api.Int, N: n} }
-func truth(n int) api.Value   { return api.Value{Kind: api.Bool, N: n} }
-func text(s string) api.Value { return api.Value{Kind: api.Text, S: s} }
-func word(s string) api.Value { return api.Value{Kind: api.Enum, S: s} }
-
-func fieldsOf(names []string, parts ...api.Value) api.Value {
-	return api.Value{Kind: api.Record, Names: names, Parts: parts}
-}
+// What the tests are made of.
+var (
+	num, truth, text, word = sample.Num, sample.Truth, sample.Text, sample.Word
+	fieldsOf               = sample.Record
+)
 
 func elements(parts ...api.Value) api.Value {
 	v := api.Value{Kind: api.List, Parts: parts}

@@ -43,17 +43,7 @@ func write(w *pack.Writer, v api.Value) {
 }
 
 // Decode is the value of bytes.
-func Decode(b []byte) (api.Value, error) {
-	if len(b) > api.MaxBytes {
-		return api.Value{}, api.ErrLong
-	}
-	r := pack.NewReader(b)
-	v := Read(r)
-	if e := r.End(); e != nil {
-		return api.Value{}, e
-	}
-	return v, nil
-}
+func Decode(b []byte) (api.Value, error) { return scan.Whole(b, Read) }
 
 // Read reads a value.
 func Read(r *pack.Reader) api.Value {

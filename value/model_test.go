@@ -11,55 +11,24 @@ import (
 
 	"dioptre/api"
 	"dioptre/fault"
+	"dioptre/sample"
 )
 
 // chance makes numbers, always the same ones.
 func chance() *rand.Rand { return rand.New(rand.NewPCG(8, 2026)) }
 
-func num(n int) api.Value     { return api.Value{Kind: api.Int, N: n} }
-func text(s string) api.Value { return api.Value{Kind: api.Text, S: s} }
-func word(s string) api.Value { return api.Value{Kind: api.Enum, S: s} }
-
-func truth(n int) api.Value { return api.Value{Kind: api.Bool, N: n} }
-
-func record(names []string, parts ...api.Value) api.Value {
-	return api.Value{Kind: api.Record, Names: names, Parts: parts}
-}
-
-func list(ids []uint64, parts ...api.Value) api.Value {
-	return api.Value{Kind: api.List, Ids: ids, Parts: parts}
-}
-
-// inLists is a value within so many lists.
-func inLists(v api.Value, n int) api.Value {
-	for range n {
-		v = list([]uint64{1}, v)
-	}
-	return v
-}
+// What the tests are made of.
+var (
+	num, truth, text, word        = sample.Num, sample.Truth, sample.Text, sample.Word
+	record, list, inLists         = sample.Record, sample.List, sample.InLists
+	plain, roomy, whole, scramble = sample.Plain, sample.Roomy, sample.Whole, sample.Scramble
+)
 
 // inRecords is a value within so many records.
 func inRecords(v api.Value, n int) api.Value {
 	for range n {
 		v = record([]string{"a"}, v)
 	}
-	return v
-}
-
-// plain is a value none of whose lists is empty but not nil.
-func plain(v api.Value) api.Value {
-	v.Names, v.Ids = slices.Clone(v.Names), slices.Clone(v.Ids)
-	if len(v.Names) == 0 {
-		v.Names = nil
-	}
-	if len(v.Ids) == 0 {
-		v.Ids = nil
-	}
-	var l []api.Value
-	for _, x := range v.Parts {
-		l = append(l, plain(x))
-	}
-	v.Parts = l
 	return v
 }
 
@@ -317,43 +286,6 @@ func spoil(r *rand.Rand, v *api.Value) {
 		slices.Reverse(v.Names)
 	default:
 		slices.Reverse(v.Ids)
-	}
-}
-
-// roomy is the same value, whose lists have spare room in which something stands.
-func roomy(v api.Value) api.Value {
-	v.Names = append(slices.Clone(v.Names), "spare", "room")[:len(v.Names)]
-	v.Ids = append(slices.Clone(v.Ids), 98, 99)[:len(v.Ids)]
-	var l []api.Value
-	for _, x := range v.Parts {
-		l = append(l, roomy(x))
-	}
-	v.Parts = append(l, num(98), num(99))[:len(l)]
-	return v
-}
-
-// whole is a copy of a value with its spare room.
-func whole(v api.Value) api.Value {
-	v.Names, v.Ids = slices.Clone(v.Names[:cap(v.Names)]), slices.Clone(v.Ids[:cap(v.Ids)])
-	var l []api.Value
-	for _, x := range v.Parts[:cap(v.Parts)] {
-		l = append(l, whole(x))
-	}
-	v.Parts = l
-	return v
-}
-
-// scramble overwrites all that a value's lists hold, their spare room, too.
-func scramble(v api.Value) {
-	for i := range v.Names[:cap(v.Names)] {
-		v.Names[:cap(v.Names)][i] = "scrambled"
-	}
-	for i := range v.Ids[:cap(v.Ids)] {
-		v.Ids[:cap(v.Ids)][i] = 77
-	}
-	for i, x := range v.Parts[:cap(v.Parts)] {
-		scramble(x)
-		v.Parts[:cap(v.Parts)][i] = num(77)
 	}
 }
 

@@ -1,0 +1,67 @@
+package sample
+
+import (
+	"slices"
+
+	"dioptre/api"
+)
+
+// Plain is the same value, all lists of which are its own; those without elements are none.
+func Plain(v api.Value) api.Value {
+	v.Names, v.Ids = append([]string(nil), v.Names...), append([]uint64(nil), v.Ids...)
+	var l []api.Value
+	for _, x := range v.Parts {
+		l = append(l, Plain(x))
+	}
+	v.Parts = l
+	return v
+}
+
+// Roomy is the same value, whose lists have spare room in which something stands.
+func Roomy(v api.Value) api.Value {
+	v.Names = append(slices.Clone(v.Names), "spare", "room")[:len(v.Names)]
+	v.Ids = append(slices.Clone(v.Ids), 98, 99)[:len(v.Ids)]
+	var l []api.Value
+	for _, x := range v.Parts {
+		l = append(l, Roomy(x))
+	}
+	v.Parts = append(l, Num(98), Num(99))[:len(l)]
+	return v
+}
+
+// Whole is a copy of a value with its spare room.
+func Whole(v api.Value) api.Value {
+	v.Names, v.Ids = slices.Clone(v.Names[:cap(v.Names)]), slices.Clone(v.Ids[:cap(v.Ids)])
+	var l []api.Value
+	for _, x := range v.Parts[:cap(v.Parts)] {
+		l = append(l, Whole(x))
+	}
+	v.Parts = l
+	return v
+}
+
+// Scramble overwrites all that a value's lists hold, their spare room, too.
+func Scramble(v api.Value) {
+	for i := range v.Names[:cap(v.Names)] {
+		v.Names[:cap(v.Names)][i] = "scrambled"
+	}
+	for i := range v.Ids[:cap(v.Ids)] {
+		v.Ids[:cap(v.Ids)][i] = 77
+	}
+	for i, x := range v.Parts[:cap(v.Parts)] {
+		Scramble(x)
+		v.Parts[:cap(v.Parts)][i] = Num(77)
+	}
+}
+
+// RoomyPath is the same path, with spare room in which something stands.
+func RoomyPath(p []api.Step) []api.Step {
+	return append(slices.Clone(p), api.Step{Name: "spare"}, api.Step{Id: 99})[:len(p)]
+}
+
+// ScramblePath overwrites all steps, those in spare room, too.
+func ScramblePath(p []api.Step) {
+	for i := range p[:cap(p)] {
+		p[:cap(p)][i] = api.Step{Name: "scrambled", Id: 7}
+	}
+}
