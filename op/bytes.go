@@ -57,7 +57,7 @@ func Decode(b []byte) (api.Op, error) { return scan.Whole(b, Read) }
 
 // Read reads an operation.
 func Read(r *pack.Reader) api.Op {
-	o := api.Op{Kind: readKind(r), Path: path.Read(r)}
+	o := api.Op{Kind: scan.Kind(r, api.Move), Path: path.Read(r)}
 	switch o.Kind {
 	case api.Insert:
 		o.Id, o.After = readNumbers(r)
@@ -74,15 +74,6 @@ func Read(r *pack.Reader) api.Op {
 		return api.Op{}
 	}
 	return o
-}
-
-// readKind reads an operation's kind.
-func readKind(r *pack.Reader) int {
-	kind := int(r.Byte())
-	if kind < api.Set || kind > api.Move {
-		r.Fail(api.ErrKind)
-	}
-	return kind
 }
 
 // readId reads the number of an element.

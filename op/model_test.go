@@ -5,14 +5,12 @@ import (
 	"math/rand/v2"
 	"reflect"
 	"slices"
-	"testing"
 
 	"dioptre/api"
-	"dioptre/fault"
-	"dioptre/pack"
 	"dioptre/path"
 	"dioptre/sample"
 	"dioptre/schema"
+	"dioptre/trial"
 	"dioptre/value"
 )
 
@@ -184,69 +182,30 @@ func wantBytes(o api.Op) []byte {
 	return b
 }
 
-// wrong is the first error, and its place.
-type wrong struct {
-	code  api.Errno
-	place int
-}
-
-// model reads by the chapter's words, and panics with what is wrong.
-type model struct {
-	b  []byte
-	at int
-}
-
-func (m *model) ask(ok bool, code api.Errno, place int) {
-	if !ok {
-		panic(wrong{code, place})
-	}
-}
-
-func (m *model) number() uint64 {
-	n, size := binary.Uvarint(m.b[m.at:])
-	m.ask(size > 0 && size == len(binary.AppendUvarint(nil, n)), api.ErrForm, m.at)
-	m.at += size
-	return n
-}
-
-// below reads what a lower layer reads.
-func below[T any](m *model, read func(r *pack.Reader) T) T {
-	r := pack.NewReader(m.b[m.at:])
-	x := read(r)
-	m.ask(r.Err() == nil, fault.Code(r.Err()), m.at+fault.Place(r.Err()))
-	m.at += r.At()
-	return x
-}
-
-func (m *model) op() (o api.Op) {
-	m.ask(len(m.b) > 0, api.ErrForm, 0)
-	o.Kind, m.at = int(m.b[0]), 1
-	m.ask(o.Kind >= 1 && o.Kind <= 4, api.ErrKind, 1)
-	o.Path = below(m, path.Read)
+// readOp reads an operation, by the chapter's words.
+func readOp(m *trial.Model) (o api.Op) {
+	o.Kind, o.Path = m.Kind(4), trial.Below(m, path.Read)
 	if o.Kind != api.Set {
-		o.Id = m.number()
-		m.ask(o.Id > 0, api.ErrForm, m.at)
+		o.Id = m.Number()
+		m.Ask(o.Id > 0, api.ErrForm, m.At)
 	}
 	if o.Kind == api.Insert || o.Kind == api.Move {
-		o.After = m.number()
-		m.ask(o.After != o.Id, api.ErrForm, m.at)
+		o.After = m.Number()
+		m.Ask(o.After != o.Id, api.ErrForm, m.At)
 	}
 	if o.Kind == api.Set || o.Kind == api.Insert {
-		o.Value = below(m, value.Read)
+		o.Value = trial.Below(m, value.Read)
 	}
 	return o
 }
 
-// wantRead is the operation at the beginning of bytes, and how many it has; or what is wrong.
-func wantRead(b []byte) (o api.Op, size int, w wrong) {
-	defer func() {
-		if e := recover(); e != nil {
-			o, size, w = api.Op{}, 0, e.(wrong)
-		}
-	}()
-	m := &model{b: b}
-	o = m.op()
-	return o, m.at, wrong{}
+// code is how operations are written and read.
+var code = trial.Bytes[api.Op]{
+	Encode: Encode, Decode: Decode, Read: Read, Write: Write, Equal: equal, Model: readOp,
+	Roomy: roomyOp, Whole: wholeOp, Scramble: func(o api.Op) {
+		scramble(o.Value)
+		sample.ScramblePath(o.Path)
+	},
 }
 
 // equal holds two operations against each other; a list without elements is the same as none.
@@ -260,22 +219,6 @@ func plain(o api.Op) api.Op {
 
 // equalValues holds two values against each other.
 func equalValues(a, b api.Value) bool { return reflect.DeepEqual(plainValue(a), plainValue(b)) }
-
-// checkCode: the error has that number, and no place.
-func checkCode(t *testing.T, name string, e error, code api.Errno) {
-	t.Helper()
-	if fault.Code(e) != code || len(fault.Places(e)) > 0 || (e == nil) != (code == api.OK) {
-		t.Errorf("%s: %v, not %d", name, e, code)
-	}
-}
-
-// checkError: the error has that number, and just that place.
-func checkError(t *testing.T, name string, e error, w wrong) {
-	t.Helper()
-	if fault.Code(e) != w.code || !slices.Equal(fault.Places(e), []int{w.place}) {
-		t.Errorf("%s: %v, not %d in %d", name, e, w.code, w.place)
-	}
-}
 
 // somePath is a path that mostly leads somewhere in a value.
 func somePath(r *rand.Rand, v api.Value) []api.Step {

@@ -8,6 +8,7 @@ import (
 	"dioptre/api"
 	"dioptre/sample"
 	"dioptre/schema"
+	"dioptre/trial"
 	"dioptre/value"
 )
 
@@ -199,20 +200,20 @@ var checks = []struct {
 // TestCheck: P12.1: each error, the one named first; else nil.
 func TestCheck(t *testing.T) {
 	for _, c := range checks {
-		checkCode(t, c.name, Check(c.o, sheet()), c.code)
+		trial.Code(t, c.name, Check(c.o, sheet()), c.code)
 		if want := wantCheck(c.o, sheet()); want != c.code {
 			t.Errorf("%s: the model: %d", c.name, want)
 		}
 		for _, s := range []api.Schema{{}, {Kind: 7}, of(api.Int, "a"), of(api.Enum), {Kind: api.List}, recordOf([]string{"b", "a"}, of(api.Int), of(api.Int)), listOf(listOf(listOf(listOf(listOf(of(api.Int))))))} {
-			checkCode(t, c.name+", a schema that isn't right", Check(c.o, s), api.ErrArg)
+			trial.Code(t, c.name+", a schema that isn't right", Check(c.o, s), api.ErrArg)
 		}
 	}
 	deep := listOf(listOf(listOf(listOf(of(api.Int)))))
-	checkCode(t, "deepest list", Check(insert(steps(1, 2, 3), 4, 0, num(1)), deep), api.OK)
-	checkCode(t, "deepest number", Check(set(steps(1, 2, 3, 4), num(1)), deep), api.OK)
-	checkCode(t, "deeper", Check(set(steps(1, 2, 3, 4, 5), num(1)), deep), api.ErrType)
-	checkCode(t, "a list in all", Check(move(nil, 4, 5), deep), api.OK)
-	checkCode(t, "a value six deep", Check(set(nil, inLists(num(1), 5)), deep), api.ErrArg)
+	trial.Code(t, "deepest list", Check(insert(steps(1, 2, 3), 4, 0, num(1)), deep), api.OK)
+	trial.Code(t, "deepest number", Check(set(steps(1, 2, 3, 4), num(1)), deep), api.OK)
+	trial.Code(t, "deeper", Check(set(steps(1, 2, 3, 4, 5), num(1)), deep), api.ErrType)
+	trial.Code(t, "a list in all", Check(move(nil, 4, 5), deep), api.OK)
+	trial.Code(t, "a value six deep", Check(set(nil, inLists(num(1), 5)), deep), api.ErrArg)
 }
 
 // TestCheckAny: P12.1: any operations and schemas, as the model says.
@@ -229,7 +230,7 @@ func TestCheckAny(t *testing.T) {
 			s.Words = append(s.Words, "A")
 		}
 		want := wantCheck(o, s)
-		checkCode(t, "Check", Check(o, s), want)
+		trial.Code(t, "Check", Check(o, s), want)
 		count[want]++
 	}
 	for _, code := range []api.Errno{api.OK, api.ErrArg, api.ErrType} {

@@ -1,8 +1,6 @@
 package path
 
 import (
-	"bytes"
-	"fmt"
 	"math"
 	"slices"
 	"strings"
@@ -10,6 +8,7 @@ import (
 
 	"dioptre/api"
 	"dioptre/pack"
+	"dioptre/trial"
 )
 
 // pathBytes are right paths, and their bytes.
@@ -30,89 +29,26 @@ var pathBytes = []struct {
 	{steps("a", "a", "a", "a", "a", "a", "a", "a"), "\x08" + strings.Repeat("\x01a", 8)},
 }
 
-// TestWrite: P10.3: the bytes of a right path, behind what was written before; of others nothing.
-func TestWrite(t *testing.T) {
+// TestBytes: P10.3: the bytes of a right path, behind what was written before; they are read, also if others stand behind them, but not if they are cut off.
+func TestBytes(t *testing.T) {
 	for _, c := range pathBytes {
-		var w pack.Writer
-		w.Byte(9)
-		p := spare(c.p)
-		Write(&w, p)
-		w.Byte(8)
-		if got := string(w.Out()); got != "\x09"+c.b+"\x08" {
-			t.Errorf("Write of %v: %x", c.p, got)
-		}
-		if !slices.Equal(p[:cap(p)], spare(c.p)[:cap(p)]) {
-			t.Errorf("Write has changed %v", p)
-		}
-	}
-	for _, p := range [][]api.Step{
-		steps(0), steps("A"), steps("abcdefghijklm"), steps("a b"), steps(api.Step{Name: "a", Id: 1}), steps("a", 1, 0), steps("a", 1, "Z"),
-		slices.Repeat(steps("a"), 9), slices.Repeat(steps(1), 100),
-	} {
-		var w pack.Writer
-		Write(&w, p)
-		if len(w.Out()) > 0 {
-			t.Errorf("Write of %v, which isn't right: %x", p, w.Out())
-		}
-		w.Byte(7)
-		Write(&w, p)
-		if string(w.Out()) != "\x07" {
-			t.Errorf("Write of %v, which isn't right, behind 7: %x", p, w.Out())
-		}
-	}
-	Write(nil, steps("a", 1))
-	Write(nil, steps(0))
-}
-
-// checkRead: Read, behind two bytes, says what the model says; what is read has just these bytes.
-func checkRead(t *testing.T, b []byte) (right bool) {
-	t.Helper()
-	want, size, w := wantRead(b)
-	r := pack.NewReader(append([]byte{7, 7}, b...))
-	r.Raw(2)
-	p := Read(r)
-	if !slices.Equal(p, want) {
-		t.Errorf("Read of %x: %v, not %v", b, p, want)
-	}
-	if w != (wrong{}) {
-		checkError(t, fmt.Sprintf("Read of %x", b), r.Err(), wrong{w.code, 2 + w.place})
-		checkBroken(t, r)
-		return false
-	}
-	if r.Err() != nil || r.At() != 2+size || !Right(p) {
-		t.Errorf("Read of %x: %v, at %d, %v", b, r.Err(), r.At(), p)
-	}
-	var again pack.Writer
-	Write(&again, p)
-	if !bytes.Equal(again.Out(), b[:size]) {
-		t.Errorf("Read of %x: %v, written again %x", b, p, again.Out())
-	}
-	return true
-}
-
-// checkBroken: a broken reader stays so, and none is told.
-func checkBroken(t *testing.T, r *pack.Reader) {
-	t.Helper()
-	at, e := r.At(), r.Err().Error()
-	if p := Read(r); len(p) > 0 || r.At() != at || r.Err().Error() != e {
-		t.Errorf("Read of a reader that is broken (%s): %v, %v", e, p, r.Err())
-	}
-}
-
-// TestRead: P10.3: paths are read, also if they are cut off anywhere, and others stand behind them.
-func TestRead(t *testing.T) {
-	for _, c := range pathBytes {
+		code.Known(t, c.p, c.b)
 		r := pack.NewReader([]byte(c.b + "\x05"))
 		if p := Read(r); !slices.Equal(p, c.p) || r.Err() != nil || r.At() != len(c.b) {
 			t.Errorf("Read of %x: %v %v, at %d", c.b, p, r.Err(), r.At())
 		}
-		for n := range len(c.b) + 1 {
-			if checkRead(t, []byte(c.b[:n])) != (n == len(c.b)) {
-				t.Errorf("Read of %x of %x", c.b[:n], c.b)
-			}
-			checkRead(t, []byte(c.b[:n]+"\x00\x00"))
-		}
 	}
+}
+
+// TestWriteWrong: P10.3: of a path that isn't right nothing is written.
+func TestWriteWrong(t *testing.T) {
+	for _, p := range [][]api.Step{
+		steps(0), steps("A"), steps("abcdefghijklm"), steps("a b"), steps(api.Step{Name: "a", Id: 1}), steps("a", 1, 0), steps("a", 1, "Z"),
+		slices.Repeat(steps("a"), 9), slices.Repeat(steps(1), 100),
+	} {
+		code.Refused(t, "one that isn't right", p, api.ErrArg)
+	}
+	Write(nil, steps(0))
 }
 
 // wrongReads are bytes, and what is wrong with them, in which place, whatever stands behind them.
@@ -166,62 +102,19 @@ var cutReads = []struct {
 
 // TestReadWrong: P10.3: each error, in its place, the first one from the left.
 func TestReadWrong(t *testing.T) {
-	check := func(name, b string, w wrong) {
-		t.Helper()
-		r := pack.NewReader([]byte(b))
-		if p := Read(r); len(p) > 0 {
-			t.Errorf("%s: %v", name, p)
-		}
-		checkError(t, name, r.Err(), w)
-		checkBroken(t, r)
-		checkRead(t, []byte(b))
-	}
 	for _, c := range cutReads {
-		check(c.name, c.b, wrong{api.ErrForm, c.place})
+		code.Fails(t, c.name, c.b, trial.Wrong{Code: api.ErrForm, Place: c.place})
 	}
 	for _, c := range wrongReads {
 		for _, rest := range []string{"", "\x00", "\x09\x09"} {
-			check(c.name, c.b+rest, wrong{c.code, c.place})
+			code.Fails(t, c.name, c.b+rest, trial.Wrong{Code: c.code, Place: c.place})
 		}
-	}
-}
-
-// TestReadBroken: P10.3: a reader that was broken ahead of it stays so, and none is told; nor of a nil one.
-func TestReadBroken(t *testing.T) {
-	for _, c := range pathBytes {
-		for _, code := range []api.Errno{api.ErrDeep, api.ErrForm, api.ErrSign} {
-			r := pack.NewReader([]byte("\x05" + c.b))
-			r.Byte()
-			r.Fail(code)
-			if p := Read(r); len(p) > 0 || r.At() != 1 {
-				t.Errorf("Read of a broken reader: %v, at %d", p, r.At())
-			}
-			checkError(t, "broken", r.Err(), wrong{code, 1})
-		}
-	}
-	if p := Read(nil); len(p) > 0 {
-		t.Error("Read of a nil reader:", p)
 	}
 }
 
 // TestReadAll: P10.3: all bytes up to five of those that say something, as the model says.
 func TestReadAll(t *testing.T) {
-	letters := []byte{0, 1, 2, 3, 8, 9, 'a', 'A', '_', 0x40, 0x41, 0x80}
-	all := [][]byte{nil}
-	right := 0
-	for len(all) > 0 {
-		b := all[0]
-		all = all[1:]
-		if checkRead(t, b) {
-			right++
-		}
-		for _, c := range letters {
-			if len(b) < 5 {
-				all = append(all, append(slices.Clone(b), c))
-			}
-		}
-	}
-	if right < 1000 {
+	if right := code.All(t, "", "\x00\x01\x02\x03\x08\x09aA_\x40\x41\x80", 5); right < 150 {
 		t.Error("right:", right)
 	}
 }
@@ -232,30 +125,15 @@ func TestReadAny(t *testing.T) {
 	count := map[bool]int{}
 	for range 20000 {
 		p := somePath(r, 9)
-		var w pack.Writer
-		Write(&w, p)
-		b := w.Out()
-		if wantRight(p) != (len(b) > 0) {
-			t.Fatalf("Write of %v: %x", p, b)
-		}
-		if len(b) == 0 {
+		if !wantRight(p) {
+			code.Refused(t, "one that isn't right", p, api.ErrArg)
 			continue
 		}
-		if q := Read(pack.NewReader(b)); !slices.Equal(p, q) {
+		b, e := code.Encode(p)
+		if q := Read(pack.NewReader(b)); e != nil || !slices.Equal(p, q) {
 			t.Fatalf("Read of %x: %v, not %v", b, q, p)
 		}
-		i := r.IntN(len(b))
-		switch r.IntN(4) {
-		case 0:
-			b = slices.Insert(b, i, byte(r.IntN(9)))
-		case 1:
-			b[i] = byte(r.Uint32())
-		case 2:
-			b = slices.Delete(b, i, i+1)
-		default:
-			b[i] ^= 1 << r.IntN(8)
-		}
-		count[checkRead(t, b)]++
+		count[code.Changed(t, r.IntN, b, r.IntN(len(b)))]++
 	}
 	if count[true] < 1000 || count[false] < 1000 {
 		t.Errorf("%v", count)

@@ -1,18 +1,17 @@
 package path
 
 import (
-	"encoding/binary"
 	"math/rand/v2"
 	"reflect"
-	"regexp"
 	"slices"
 	"strings"
 	"testing"
 
 	"dioptre/api"
-	"dioptre/fault"
+	"dioptre/pack"
 	"dioptre/sample"
 	"dioptre/schema"
+	"dioptre/trial"
 	"dioptre/value"
 )
 
@@ -37,13 +36,11 @@ func recordOf(words []string, parts ...api.Schema) api.Schema {
 // samePaths holds lists of paths against each other.
 func samePaths(a, b [][]api.Step) bool { return slices.EqualFunc(a, b, slices.Equal) }
 
-var nameForm = regexp.MustCompile(`\A[a-z0-9_]{1,12}\z`)
-
 // wantRight: whether a path is right, by the chapter's words.
 func wantRight(p []api.Step) bool {
 	ok := len(p) < 9
 	for _, s := range p {
-		ok = ok && (nameForm.MatchString(s.Name) && s.Id == 0 || len(s.Name) == 0 && s.Id > 0)
+		ok = ok && (trial.Name(s.Name) && s.Id == 0 || len(s.Name) == 0 && s.Id > 0)
 	}
 	return ok
 }
@@ -112,75 +109,41 @@ func wantAll(v api.Value, here ...api.Step) [][]api.Step {
 	return l
 }
 
-// wrong is the first error, and its place.
-type wrong struct {
-	code  api.Errno
-	place int
-}
-
-// model reads by the chapter's words, and panics with what is wrong.
-type model struct {
-	b  []byte
-	at int
-}
-
-func (m *model) ask(ok bool, code api.Errno, place int) {
-	if !ok {
-		panic(wrong{code, place})
-	}
-}
-
-func (m *model) number() uint64 {
-	n, size := binary.Uvarint(m.b[m.at:])
-	m.ask(size > 0 && size == len(binary.AppendUvarint(nil, n)), api.ErrForm, m.at)
-	m.at += size
-	return n
-}
-
-func (m *model) text() string {
-	start := m.at
-	n := m.number()
-	m.ask(n < 65, api.ErrLong, start)
-	m.ask(int(n) <= len(m.b)-m.at, api.ErrForm, start)
-	m.at += int(n)
-	return string(m.b[m.at-int(n) : m.at])
-}
-
-func (m *model) path() []api.Step {
-	n := m.number()
-	m.ask(n < 9, api.ErrLong, m.at)
-	var p []api.Step
-	for range n {
-		s := api.Step{Name: m.text()}
+// readPath reads a path, by the chapter's words.
+func readPath(m *trial.Model) (p []api.Step) {
+	for range m.Count(8) {
+		s := api.Step{Name: m.Text()}
 		if s.Name == "" {
-			s.Id = m.number()
-			m.ask(s.Id > 0, api.ErrForm, m.at)
+			s.Id = m.Number()
+			m.Ask(s.Id > 0, api.ErrForm, m.At)
 		} else {
-			m.ask(nameForm.MatchString(s.Name), api.ErrForm, m.at)
+			m.Ask(trial.Name(s.Name), api.ErrForm, m.At)
 		}
 		p = append(p, s)
 	}
 	return p
 }
 
-// wantRead is the path at the beginning of bytes, and how many it has; or what is wrong.
-func wantRead(b []byte) (p []api.Step, size int, w wrong) {
-	defer func() {
-		if e := recover(); e != nil {
-			p, size, w = nil, 0, e.(wrong)
+// code is how paths are written and read. (Those that aren't right have no bytes.)
+var code = trial.Bytes[[]api.Step]{
+	Encode: func(p []api.Step) ([]byte, error) {
+		var w pack.Writer
+		Write(&w, p)
+		if len(w.Out()) == 0 {
+			return nil, api.ErrArg
 		}
-	}()
-	m := &model{b: b}
-	p = m.path()
-	return p, m.at, wrong{}
-}
-
-// checkError: the error has that number, and just that place.
-func checkError(t *testing.T, name string, e error, w wrong) {
-	t.Helper()
-	if fault.Code(e) != w.code || !slices.Equal(fault.Places(e), []int{w.place}) {
-		t.Errorf("%s: %v, not %d in %d", name, e, w.code, w.place)
-	}
+		return w.Out(), nil
+	},
+	Decode: func(b []byte) ([]api.Step, error) {
+		r := pack.NewReader(b)
+		p := Read(r)
+		if e := r.End(); e != nil {
+			return nil, e
+		}
+		return p, nil
+	},
+	Read: Read, Write: Write, Equal: slices.Equal[[]api.Step], Model: readPath, Roomy: spare,
+	Whole: func(p []api.Step) []api.Step { return slices.Clone(p[:cap(p)]) }, Scramble: sample.ScramblePath,
 }
 
 // someName is a name; many are alike.

@@ -65,3 +65,47 @@ func ScramblePath(p []api.Step) {
 		p[:cap(p)][i] = api.Step{Name: "scrambled", Id: 7}
 	}
 }
+
+// PlainSchema is the same schema, all lists of which are its own; those without elements are none.
+func PlainSchema(s api.Schema) api.Schema {
+	s.Words = append([]string(nil), s.Words...)
+	var l []api.Schema
+	for _, x := range s.Parts {
+		l = append(l, PlainSchema(x))
+	}
+	s.Parts = l
+	return s
+}
+
+// RoomySchema is the same schema, whose lists have spare room in which something stands.
+func RoomySchema(s api.Schema) api.Schema {
+	s.Words = append(slices.Clone(s.Words), "spare", "room")[:len(s.Words)]
+	var l []api.Schema
+	for _, x := range s.Parts {
+		l = append(l, RoomySchema(x))
+	}
+	s.Parts = append(l, Of(98), Of(99))[:len(l)]
+	return s
+}
+
+// WholeSchema is a copy of a schema with its spare room.
+func WholeSchema(s api.Schema) api.Schema {
+	s.Words = slices.Clone(s.Words[:cap(s.Words)])
+	var l []api.Schema
+	for _, x := range s.Parts[:cap(s.Parts)] {
+		l = append(l, WholeSchema(x))
+	}
+	s.Parts = l
+	return s
+}
+
+// ScrambleSchema overwrites all that a schema's lists hold, their spare room, too.
+func ScrambleSchema(s api.Schema) {
+	for i := range s.Words[:cap(s.Words)] {
+		s.Words[:cap(s.Words)][i] = "scrambled"
+	}
+	for i, x := range s.Parts[:cap(s.Parts)] {
+		ScrambleSchema(x)
+		s.Parts[:cap(s.Parts)][i] = Of(77)
+	}
+}

@@ -7,7 +7,10 @@ import (
 	"testing"
 
 	"dioptre/api"
+	"dioptre/lens"
+	"dioptre/pack"
 	"dioptre/schema"
+	"dioptre/value"
 )
 
 // TestRoom: spare room is laid, told and scrambled; the value itself stays the same one, and shares nothing.
@@ -51,5 +54,82 @@ func TestSome(t *testing.T) {
 	}
 	if len(kinds) != 6 || sizes[0] < 10 || sizes[api.MaxItems] < 10 {
 		t.Errorf("%v %v", kinds, sizes)
+	}
+}
+
+// TestSchemaRoom: as TestRoom, of schemas.
+func TestSchemaRoom(t *testing.T) {
+	s := RecordOf([]string{"a", "b"}, Of(api.Enum, "x"), ListOf(ListOf(Of(api.Int))))
+	kept := PlainSchema(s)
+	u := RoomySchema(s)
+	if !reflect.DeepEqual(PlainSchema(u), kept) || reflect.DeepEqual(WholeSchema(u), kept) || len(WholeSchema(u).Words) < 4 {
+		t.Errorf("RoomySchema, WholeSchema: %v, %v", u, WholeSchema(u))
+	}
+	before := WholeSchema(u)
+	ScrambleSchema(u)
+	if reflect.DeepEqual(WholeSchema(u), before) || !reflect.DeepEqual(PlainSchema(s), kept) {
+		t.Errorf("ScrambleSchema: %v, %v", u, s)
+	}
+}
+
+// TestLensRoom: as TestRoom, of lenses: each of their lists has spare room, and is scrambled.
+func TestLensRoom(t *testing.T) {
+	inner := api.Lens{Kind: api.Convert, A: "b", Type: Of(api.Enum, "x"), Base: Word("x"), Back: Nums(1), Pairs: []api.Pair{{X: Nums(2), Y: Nums(3)}}}
+	l := api.Lens{Kind: api.In, A: "a", Inner: []api.Lens{inner}}
+	kept := PlainLens(l)
+	m := RoomyLens(l)
+	all := WholeLens(m)
+	if !reflect.DeepEqual(PlainLens(m), kept) || len(all.Inner) < 2 || len(all.Pairs) < 1 || len(all.Inner[0].Pairs) < 2 || len(all.Inner[0].Pairs[0].Y.Ids) < 3 || len(all.Inner[0].Back.Parts) < 3 || len(all.Inner[0].Type.Words) < 3 {
+		t.Errorf("RoomyLens, WholeLens: %v, %v", m, all)
+	}
+	x := m.Inner[0]
+	ScrambleLens(m)
+	if m.Inner[0].A != "scrambled" || x.Type.Words[0] != "scrambled" || x.Pairs[0].X.N != 77 || x.Back.Parts[0].N != 77 || !reflect.DeepEqual(PlainLens(l), kept) {
+		t.Errorf("ScrambleLens: %v, %v", m, l)
+	}
+	if m.Pairs[:1][0].Y.N != 77 || m.Inner[:2][1].A != "scrambled" {
+		t.Errorf("ScrambleLens, spare room: %v", WholeLens(m))
+	}
+}
+
+// TestSomeLens: lenses are right, mostly go on the schema, and are of each kind.
+func TestSomeLens(t *testing.T) {
+	r := rand.New(rand.NewPCG(2, 2026))
+	kinds, fit, all := map[int]int{}, 0, 0
+	for range 3000 {
+		s := SomeSchema(r.IntN, 2+r.IntN(4))
+		if s.Kind != api.Record {
+			continue
+		}
+		l := SomeLens(r.IntN, s, 1+r.IntN(5))
+		if !lens.Right(l) {
+			t.Fatalf("%v isn't right", l)
+		}
+		all++
+		if _, e := lens.Target(l, s); e == nil {
+			fit++
+			kinds[l.Kind]++
+		}
+	}
+	if len(kinds) != 10 || fit < all*8/10 {
+		t.Errorf("%v, %d of %d", kinds, fit, all)
+	}
+	if l := SomeLens(r.IntN, RecordOf(nil), 5); l.Kind != api.Add || !lens.Right(l) {
+		t.Error("of an empty record:", l)
+	}
+}
+
+// TestLarge: it is right, and has so many bytes.
+func TestLarge(t *testing.T) {
+	for n := 1000; n <= 9000; n++ {
+		var w pack.Writer
+		v := Large(n)
+		for _, x := range v.Parts {
+			b, _ := value.Encode(x)
+			w.Raw(b...)
+		}
+		if b, e := value.Encode(v); !value.Right(v) || len(w.Out())+len(v.Ids)+2 != n || n <= api.MaxBytes && (e != nil || len(b) != n) {
+			t.Fatalf("%d: %d, %v", n, len(w.Out()), e)
+		}
 	}
 }

@@ -1,4 +1,4 @@
-// Package scan reads what several layers have in common: how many things come, and words and numbers of which more is asked than package pack does (what is wrong with them is told behind them); and bytes as a whole.
+// Package scan reads what several layers have in common: kinds, how many things come, and whatever more is asked of than package pack does (what is wrong with it is told behind it); and bytes as a whole.
 package scan
 
 import (
@@ -18,18 +18,29 @@ func Count(r *pack.Reader, most int) int {
 	return int(n)
 }
 
+// Kind reads a kind, one of 1 to most: ErrKind of another one.
+func Kind(r *pack.Reader, most int) int {
+	kind := int(r.Byte())
+	if kind < 1 || kind > most {
+		r.Fail(api.ErrKind)
+		return 0
+	}
+	return kind
+}
+
 // Word reads a text of at most MaxText bytes: ErrForm, if it doesn't fit.
 func Word(r *pack.Reader, fits func(s string) bool) string {
-	return asked(r, r.Text(api.MaxText), fits)
+	return Asked(r, func(r *pack.Reader) string { return r.Text(api.MaxText) }, fits)
 }
 
 // Number reads a number: ErrForm, if it doesn't fit.
 func Number(r *pack.Reader, fits func(n uint64) bool) uint64 {
-	return asked(r, r.Number(math.MaxUint64), fits)
+	return Asked(r, func(r *pack.Reader) uint64 { return r.Number(math.MaxUint64) }, fits)
 }
 
-// asked is what was read, if it fits.
-func asked[T any](r *pack.Reader, x T, fits func(x T) bool) T {
+// Asked is what the function that is handed on reads: ErrForm, if it doesn't fit.
+func Asked[T any](r *pack.Reader, read func(r *pack.Reader) T, fits func(x T) bool) T {
+	x := read(r)
 	if !fits(x) {
 		r.Fail(api.ErrForm)
 		var none T

@@ -44,6 +44,29 @@ func TestCount(t *testing.T) {
 	check(t, "above", "\xff\xff\xff\xff\xff\xff\xff\xff\xff\x02", eight, 0, api.ErrForm, 1)
 }
 
+// TestKind: ErrKind of what is none of them, behind it; package pack's own error first.
+func TestKind(t *testing.T) {
+	four := func(r *pack.Reader) int { return Kind(r, 4) }
+	check(t, "1", "\x01\x09", four, 1, api.OK, 2)
+	check(t, "4", "\x04\x09", four, 4, api.OK, 2)
+	check(t, "0", "\x00\x01", four, 0, api.ErrKind, 2)
+	check(t, "5", "\x05\x01", four, 0, api.ErrKind, 2)
+	check(t, "255", "\xff", four, 0, api.ErrKind, 2)
+	check(t, "none", "", four, 0, api.ErrForm, 1)
+}
+
+// TestAsked: what the function that is handed on reads; its own errors first, ErrForm of what doesn't fit, behind it.
+func TestAsked(t *testing.T) {
+	yes := func(r *pack.Reader) bool { return Asked(r, (*pack.Reader).Bool, func(b bool) bool { return b }) }
+	check(t, "true", "\x01\x09", yes, true, api.OK, 2)
+	check(t, "false", "\x00\x09", yes, false, api.ErrForm, 2)
+	check(t, "2", "\x02\x09", yes, false, api.ErrForm, 1)
+	small := func(r *pack.Reader) int { return Asked(r, (*pack.Reader).Int, func(n int) bool { return n < 3 }) }
+	check(t, "-2", "\x03\x09", small, -2, api.OK, 2)
+	check(t, "3", "\x06\x09", small, 0, api.ErrForm, 2)
+	check(t, "none, which would fit", "", small, 0, api.ErrForm, 1)
+}
+
 // TestWord: ErrForm of one that doesn't fit, behind it; package pack's own errors first.
 func TestWord(t *testing.T) {
 	short := func(r *pack.Reader) string {
@@ -73,7 +96,7 @@ func TestNumber(t *testing.T) {
 
 // TestNil: no call panics.
 func TestNil(t *testing.T) {
-	if Count(nil, 8) != 0 || Word(nil, func(string) bool { return false }) != "" || Number(nil, func(uint64) bool { return true }) != 0 {
+	if Kind(nil, 8) != 0 || Asked(nil, (*pack.Reader).Bool, func(bool) bool { return true }) || Count(nil, 8) != 0 || Word(nil, func(string) bool { return false }) != "" || Number(nil, func(uint64) bool { return true }) != 0 {
 		t.Error("of a nil reader")
 	}
 }

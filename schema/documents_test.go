@@ -13,8 +13,9 @@ import (
 
 // What the tests are made of.
 var (
-	num, truth, text, word = sample.Num, sample.Truth, sample.Text, sample.Word
-	fieldsOf               = sample.Record
+	num, truth, text, word        = sample.Num, sample.Truth, sample.Text, sample.Word
+	fieldsOf                      = sample.Record
+	plain, roomy, whole, scramble = sample.PlainSchema, sample.RoomySchema, sample.WholeSchema, sample.ScrambleSchema
 )
 
 func elements(parts ...api.Value) api.Value {

@@ -1,16 +1,14 @@
 package schema
 
 import (
-	"encoding/binary"
 	"math/rand/v2"
 	"reflect"
-	"regexp"
 	"slices"
 	"strings"
 	"testing"
 
 	"dioptre/api"
-	"dioptre/fault"
+	"dioptre/trial"
 )
 
 // chance makes numbers, always the same ones.
@@ -44,24 +42,8 @@ func inRecords(s api.Schema, n int) api.Schema {
 	return s
 }
 
-// plain is a schema none of whose lists is empty but not nil.
-func plain(s api.Schema) api.Schema {
-	s.Words = slices.Clone(s.Words)
-	if len(s.Words) == 0 {
-		s.Words = nil
-	}
-	var l []api.Schema
-	for _, x := range s.Parts {
-		l = append(l, plain(x))
-	}
-	s.Parts = l
-	return s
-}
-
 // equal holds two schemas against each other by the library's means.
 func equal(a, b api.Schema) bool { return reflect.DeepEqual(plain(a), plain(b)) }
-
-var nameForm = regexp.MustCompile(`\A[a-z0-9_]{1,12}\z`)
 
 // wantRight: whether a schema is right, by the chapter's words.
 func wantRight(s api.Schema) bool {
@@ -85,7 +67,7 @@ func wantRight(s api.Schema) bool {
 		ok = len(s.Words) == 0 && len(s.Parts) == 1
 	}
 	for _, word := range s.Words {
-		ok = ok && nameForm.MatchString(word)
+		ok = ok && trial.Name(word)
 	}
 	for _, x := range s.Parts {
 		ok = ok && wantRight(x)
@@ -101,92 +83,36 @@ func wantDepth(s api.Schema) int {
 	return deepest + 1
 }
 
-// wrong is the first error, and its place.
-type wrong struct {
-	code  api.Errno
-	place int
-}
-
-// model reads by the chapter's words, and panics with what is wrong.
-type model struct {
-	b  []byte
-	at int
-}
-
-func (m *model) ask(ok bool, code api.Errno, place int) {
-	if !ok {
-		panic(wrong{code, place})
-	}
-}
-
-func (m *model) number() uint64 {
-	n, size := binary.Uvarint(m.b[m.at:])
-	m.ask(size > 0 && size == len(binary.AppendUvarint(nil, n)), api.ErrForm, m.at)
-	m.at += size
-	return n
-}
-
-func (m *model) name() string {
-	start := m.at
-	n := m.number()
-	m.ask(n < 65, api.ErrLong, start)
-	m.ask(int(n) <= len(m.b)-m.at, api.ErrForm, start)
-	m.at += int(n)
-	s := string(m.b[m.at-int(n) : m.at])
-	m.ask(nameForm.MatchString(s), api.ErrForm, m.at)
-	return s
-}
-
-func (m *model) schema(depth int) api.Schema {
-	m.ask(depth < 6, api.ErrDeep, m.at)
-	m.ask(m.at < len(m.b), api.ErrForm, m.at)
-	s := api.Schema{Kind: int(m.b[m.at])}
-	m.at++
-	m.ask(s.Kind > 0 && s.Kind < 7, api.ErrKind, m.at)
-	if s.Kind == api.List {
-		s.Parts = append(s.Parts, m.schema(depth+1))
-	}
-	if s.Kind != api.Enum && s.Kind != api.Record {
-		return s
-	}
-	n := m.number()
-	m.ask(n < 9, api.ErrLong, m.at)
-	m.ask(n > 0 || s.Kind == api.Record, api.ErrForm, m.at)
-	for i := range int(n) {
-		word := m.name()
-		if s.Kind == api.Enum {
-			m.ask(!slices.Contains(s.Words, word), api.ErrForm, m.at)
-		} else {
-			m.ask(i == 0 || s.Words[i-1] < word, api.ErrForm, m.at)
-			s.Parts = append(s.Parts, m.schema(depth+1))
+// readSchema reads a schema that lies so deep, by the chapter's words.
+func readSchema(m *trial.Model, depth int) api.Schema {
+	m.Ask(depth < 6, api.ErrDeep, m.At)
+	s := api.Schema{Kind: m.Kind(6)}
+	switch s.Kind {
+	case api.List:
+		s.Parts = append(s.Parts, readSchema(m, depth+1))
+	case api.Enum:
+		n := m.Count(8)
+		m.Ask(n > 0, api.ErrForm, m.At)
+		for range n {
+			word := m.Name()
+			m.Ask(!slices.Contains(s.Words, word), api.ErrForm, m.At)
+			s.Words = append(s.Words, word)
 		}
-		s.Words = append(s.Words, word)
+	case api.Record:
+		for i := range m.Count(8) {
+			word := m.Name()
+			m.Ask(i == 0 || s.Words[i-1] < word, api.ErrForm, m.At)
+			s.Words, s.Parts = append(s.Words, word), append(s.Parts, readSchema(m, depth+1))
+		}
 	}
 	return s
 }
 
-// wantRead is the schema at the beginning of bytes, and how many it has; or what is wrong.
-func wantRead(b []byte) (s api.Schema, size int, w wrong) {
-	defer func() {
-		if e := recover(); e != nil {
-			s, size, w = api.Schema{}, 0, e.(wrong)
-		}
-	}()
-	m := &model{b: b}
-	s = m.schema(1)
-	return s, m.at, wrong{}
-}
-
-// checkError: the error has that number, and just that place; none, if that is below 0.
-func checkError(t *testing.T, name string, e error, code api.Errno, place int) {
-	t.Helper()
-	var places []int
-	if place >= 0 {
-		places = []int{place}
-	}
-	if fault.Code(e) != code || !slices.Equal(fault.Places(e), places) || (e == nil) != (code == api.OK) {
-		t.Errorf("%s: %v, not %d in %v", name, e, code, places)
-	}
+// code is how schemas are written and read.
+var code = trial.Bytes[api.Schema]{
+	Encode: Encode, Decode: Decode, Read: Read, Equal: equal,
+	Model: func(m *trial.Model) api.Schema { return readSchema(m, 1) },
+	Roomy: roomy, Whole: whole, Scramble: scramble,
 }
 
 // someName is a name; many are alike, or stand close to each other.
@@ -279,39 +205,6 @@ func spoil(r *rand.Rand, s *api.Schema) {
 		*s = inLists(*s, 1+r.IntN(3))
 	default:
 		slices.Reverse(s.Words)
-	}
-}
-
-// roomy is the same schema, whose lists have spare room in which something stands.
-func roomy(s api.Schema) api.Schema {
-	s.Words = append(slices.Clone(s.Words), "spare", "room")[:len(s.Words)]
-	var l []api.Schema
-	for _, x := range s.Parts {
-		l = append(l, roomy(x))
-	}
-	s.Parts = append(l, of(98), of(99))[:len(l)]
-	return s
-}
-
-// whole is a copy of a schema with its spare room.
-func whole(s api.Schema) api.Schema {
-	s.Words = slices.Clone(s.Words[:cap(s.Words)])
-	var l []api.Schema
-	for _, x := range s.Parts[:cap(s.Parts)] {
-		l = append(l, whole(x))
-	}
-	s.Parts = l
-	return s
-}
-
-// scramble overwrites all that a schema's lists hold, their spare room, too.
-func scramble(s api.Schema) {
-	for i := range s.Words[:cap(s.Words)] {
-		s.Words[:cap(s.Words)][i] = "scrambled"
-	}
-	for i, x := range s.Parts[:cap(s.Parts)] {
-		scramble(x)
-		s.Parts[:cap(s.Parts)][i] = of(77)
 	}
 }
 

@@ -6,6 +6,7 @@ import (
 	"testing"
 
 	"dioptre/api"
+	"dioptre/trial"
 )
 
 var (
@@ -68,10 +69,10 @@ func checkRight(t *testing.T, name string, s api.Schema, want bool) {
 	}
 	b, e := Encode(s)
 	if want {
-		checkError(t, name, e, api.OK, -1)
+		trial.Code(t, name, e, api.OK)
 		return
 	}
-	checkError(t, name, e, api.ErrArg, -1)
+	trial.Code(t, name, e, api.ErrArg)
 	if v := Default(s); len(b) > 0 || v.Kind != 0 || v.N != 0 || v.S != "" || len(v.Names)+len(v.Ids)+len(v.Parts) > 0 {
 		t.Errorf("%s: %x, Default %v", name, b, v)
 	}
@@ -236,7 +237,7 @@ func TestDeep(t *testing.T) {
 		t.Error("deep:", Depth(s), Right(s))
 	}
 	_, e := Encode(s)
-	checkError(t, "deep", e, api.ErrArg, -1)
+	trial.Code(t, "deep", e, api.ErrArg)
 	if x, ok := Field(record([]string{"a"}, s), "a"); !ok || Depth(With(record(nil), "a", x)) != n+2 {
 		t.Error("deep: records")
 	}
@@ -263,7 +264,7 @@ func TestRings(t *testing.T) {
 		}
 		checkSame(t, "ring", s, s, false)
 		_, e := Encode(s)
-		checkError(t, "ring", e, api.ErrArg, -1)
+		trial.Code(t, "ring", e, api.ErrArg)
 		x, ok := Field(record([]string{"a"}, s), "a")
 		if !ok || !equal(x, api.Schema{}) || !equal(With(s, "a", s), api.Schema{}) || !equal(Without(s, "a"), api.Schema{}) || !slices.Equal(Record([]string{"a"}, s).Words, []string{"a"}) {
 			t.Error("ring", i, "Field, With, Without, Record")

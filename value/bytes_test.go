@@ -1,16 +1,14 @@
 package value
 
 import (
-	"bytes"
-	"fmt"
 	"math"
 	"slices"
 	"strings"
 	"testing"
 
 	"dioptre/api"
-	"dioptre/fault"
 	"dioptre/pack"
+	"dioptre/trial"
 )
 
 // valueBytes are right values, and their bytes.
@@ -42,86 +40,10 @@ var valueBytes = []struct {
 	{inRecords(list(nil), 4), "\x05\x01\x01a\x05\x01\x01a\x05\x01\x01a\x05\x01\x01a\x06\x00"},
 }
 
-// TestBytes: P8.2, P8.4: the bytes of each kind; they are decoded.
+// TestBytes: P8.2, P8.4: the bytes of each kind; they are decoded, those that are cut off, or followed by others, are refused.
 func TestBytes(t *testing.T) {
 	for _, c := range valueBytes {
-		b, e := Encode(c.v)
-		if e != nil || string(b) != c.b {
-			t.Errorf("Encode of %v: %x %v, not %x", c.v, b, e, c.b)
-		}
-		v, e := Decode([]byte(c.b))
-		if e != nil || !equal(v, c.v) {
-			t.Errorf("Decode of %x: %v %v", c.b, v, e)
-		}
-	}
-}
-
-// checkDecode: Decode, and Read behind other bytes, say what the model says; what is decoded has just these bytes.
-func checkDecode(t *testing.T, b []byte) (right bool) {
-	t.Helper()
-	want, size, w := wantRead(b)
-	checkReadAt(t, b, want, size, w)
-	if w == (wrong{}) && size < len(b) {
-		want, w = api.Value{}, wrong{api.ErrForm, size}
-	}
-	v, e := Decode(b)
-	if w != (wrong{}) {
-		checkError(t, fmt.Sprintf("Decode of %x", b), e, w.code, w.place)
-	}
-	if !equal(v, want) {
-		t.Errorf("Decode of %x: %v, not %v", b, v, want)
-	}
-	if w != (wrong{}) {
-		return false
-	}
-	again, e2 := Encode(v)
-	if e != nil || e2 != nil || !Right(v) || !bytes.Equal(again, b) {
-		t.Errorf("Decode of %x: %v, Encode %x %v", b, e, again, e2)
-	}
-	return true
-}
-
-// checkReadAt: Read, of a reader that stands behind two bytes, tells this, and stands behind it, or where it is wrong.
-func checkReadAt(t *testing.T, b []byte, want api.Value, size int, w wrong) {
-	t.Helper()
-	r := pack.NewReader(append([]byte{7, 7}, b...))
-	r.Raw(2)
-	v := Read(r)
-	if !equal(v, want) {
-		t.Errorf("Read of %x: %v, not %v", b, v, want)
-	}
-	if w == (wrong{}) {
-		if r.Err() != nil || r.At() != 2+size {
-			t.Errorf("Read of %x: %v, at %d", b, r.Err(), r.At())
-		}
-		return
-	}
-	checkError(t, fmt.Sprintf("Read of %x", b), r.Err(), w.code, 2+w.place)
-	if r.At() != 2+w.place {
-		t.Errorf("Read of %x: at %d", b, r.At())
-	}
-}
-
-// TestCut: P8.2: bytes that are cut off anywhere, and bytes that are left over.
-func TestCut(t *testing.T) {
-	for _, c := range valueBytes {
-		b := []byte(c.b)
-		if !checkDecode(t, b) {
-			t.Errorf("%x isn't right", b)
-		}
-		for n := range len(b) {
-			if checkDecode(t, b[:n]) {
-				t.Errorf("%x of %x is right", b[:n], b)
-			}
-			if _, e := Decode(b[:n]); fault.Code(e) != api.ErrForm {
-				t.Errorf("Decode of %x: %v", b[:n], e)
-			}
-		}
-		for _, rest := range []string{"\x00", "\x01\x00", "\xff", c.b} {
-			_, e := Decode([]byte(c.b + rest))
-			checkError(t, fmt.Sprintf("%x, and %x left", b, rest), e, api.ErrForm, len(b))
-			checkDecode(t, []byte(c.b+rest))
-		}
+		code.Known(t, c.v, c.b)
 	}
 }
 
@@ -206,21 +128,12 @@ var cutBytes = []struct {
 
 // TestErrors: P8.2: each error, in its place, the first one from the left.
 func TestErrors(t *testing.T) {
-	check := func(name, b string, code api.Errno, place int) {
-		t.Helper()
-		v, e := Decode([]byte(b))
-		checkError(t, name, e, code, place)
-		if !equal(v, api.Value{}) {
-			t.Errorf("%s: %v", name, v)
-		}
-		checkDecode(t, []byte(b))
-	}
 	for _, c := range cutBytes {
-		check(c.name, c.b, api.ErrForm, c.place)
+		code.Fails(t, c.name, c.b, trial.Wrong{Code: api.ErrForm, Place: c.place})
 	}
 	for _, c := range wrongBytes {
 		for _, rest := range []string{"", "\x00", "\x09\x09"} {
-			check(c.name, c.b+rest, c.code, c.place)
+			code.Fails(t, c.name, c.b+rest, trial.Wrong{Code: c.code, Place: c.place})
 		}
 	}
 }
@@ -237,31 +150,14 @@ func TestTooDeep(t *testing.T) {
 			rests = append(rests, string([]byte{byte(c)}), string([]byte{byte(c), 0}))
 		}
 		for _, rest := range rests {
-			_, e := Decode([]byte(front + rest))
-			checkError(t, fmt.Sprintf("%s: %x", name, rest), e, api.ErrDeep, len(front))
-			checkDecode(t, []byte(front+rest))
+			code.Fails(t, name, front+rest, trial.Wrong{Code: api.ErrDeep, Place: len(front)})
 		}
 	}
 }
 
 // TestDecodeAll: P8.2, P8.4: all bytes up to five of those that say something, as the model says.
 func TestDecodeAll(t *testing.T) {
-	letters := []byte{0, 1, 2, 3, 4, 5, 6, 7, 'a', 'b', 0x80}
-	all := [][]byte{nil}
-	right := 0
-	for len(all) > 0 {
-		b := all[0]
-		all = all[1:]
-		if checkDecode(t, b) {
-			right++
-		}
-		for _, c := range letters {
-			if len(b) < 5 {
-				all = append(all, append(slices.Clone(b), c))
-			}
-		}
-	}
-	if right < 300 {
+	if right := code.All(t, "", "\x00\x01\x02\x03\x04\x05\x06\x07ab\x80", 5); right < 300 {
 		t.Error("right:", right)
 	}
 }
@@ -278,21 +174,8 @@ func TestDecodeAny(t *testing.T) {
 			t.Fatalf("%v: %x %v, decoded %v %v", v, b, e, back, e2)
 		}
 		for range 1 + r.IntN(2) {
-			i := r.IntN(len(b) + 1)
-			switch r.IntN(4) {
-			case 0:
-				b = slices.Insert(b, i, byte(r.IntN(9)))
-			case 1:
-				b = slices.Insert(b, i, byte(r.Uint32()))
-			case 2:
-				b = slices.Delete(b, max(i-1, 0), i)
-			default:
-				if i < len(b) {
-					b[i] ^= 1 << r.IntN(8)
-				}
-			}
+			count[code.Changed(t, r.IntN, b, r.IntN(len(b)))]++
 		}
-		count[checkDecode(t, b)]++
 	}
 	if count[true] < 1000 || count[false] < 1000 {
 		t.Errorf("%v", count)
@@ -318,41 +201,23 @@ func long(n int) api.Value {
 func TestLong(t *testing.T) {
 	for n := 4090; n <= 4102; n++ {
 		v := long(n)
-		b, e := Encode(v)
 		if n <= 4096 {
-			back, e2 := Decode(b)
-			if e != nil || e2 != nil || len(b) != n || !equal(back, v) {
-				t.Errorf("%d bytes: %d, %v, %v", n, len(b), e, e2)
+			b, _ := Encode(v)
+			if back, e := Decode(b); e != nil || len(b) != n || !equal(back, v) {
+				t.Errorf("%d bytes: %d, %v", n, len(b), e)
 			}
 			continue
 		}
-		checkError(t, "Encode", e, api.ErrLong, -1)
-		if len(b) > 0 || !Right(v) {
-			t.Errorf("%d bytes: %x", n, b)
-		}
+		code.Refused(t, "too many", v, api.ErrLong)
 		v.Parts[5].Parts[0].N = 1
-		_, e = Encode(v)
-		checkError(t, "Encode of a long one that isn't right", e, api.ErrArg, -1)
+		code.Refused(t, "too many, and not right", v, api.ErrArg)
 	}
 	b, _ := Encode(long(4096))
-	for _, c := range []struct {
-		b     []byte
-		code  api.Errno
-		place int
-	}{
-		{append(b[:4096:4096], 0), api.ErrLong, -1},
-		{b[:4095], api.ErrForm, 4042},
-		{make([]byte, 4096), api.ErrKind, 1},
-		{make([]byte, 4097), api.ErrLong, -1},
-		{append([]byte{1, 1}, make([]byte, 4094)...), api.ErrForm, 2},
-		{append([]byte{1, 1}, make([]byte, 4095)...), api.ErrLong, -1},
-		{make([]byte, 100000), api.ErrLong, -1},
-	} {
-		v, e := Decode(c.b)
-		checkError(t, fmt.Sprintf("%d bytes", len(c.b)), e, c.code, c.place)
-		if !equal(v, api.Value{}) {
-			t.Errorf("%d bytes: %v", len(c.b), v)
-		}
+	code.Fails(t, "one byte fewer", string(b[:4095]), trial.Wrong{Code: api.ErrForm, Place: 4042})
+	code.Fails(t, "no kind", strings.Repeat("\x00", 4096), trial.Wrong{Code: api.ErrKind, Place: 1})
+	code.Fails(t, "most of it left", "\x01\x01"+strings.Repeat("\x00", 4094), trial.Wrong{Code: api.ErrForm, Place: 2})
+	for _, b := range [][]byte{append(b[:4096:4096], 0), make([]byte, 4097), append([]byte{1, 1}, make([]byte, 4095)...), make([]byte, 100000)} {
+		code.TooLong(t, b)
 	}
 }
 
@@ -372,69 +237,11 @@ func TestReadLong(t *testing.T) {
 	}
 }
 
-// TestBrokenReader: P8.2: a broken reader stays so, and zero is told; of a nil one, too.
-func TestBrokenReader(t *testing.T) {
+// TestSeveral: P8.2: values one behind the other.
+func TestSeveral(t *testing.T) {
+	var l []api.Value
 	for _, c := range valueBytes {
-		r := pack.NewReader([]byte("\x09" + c.b))
-		r.Byte()
-		r.Fail(api.ErrSign)
-		for range 2 {
-			if v := Read(r); !equal(v, api.Value{}) {
-				t.Errorf("Read of a broken reader: %v", v)
-			}
-			checkError(t, "broken", r.Err(), api.ErrSign, 1)
-		}
-		if r.At() != 1 {
-			t.Error("a broken reader stands at", r.At())
-		}
+		l = append(l, c.v)
 	}
-	r := pack.NewReader([]byte("\x01\x02\x01\x01"))
-	for range 3 {
-		Read(r)
-		checkError(t, "broken by Read", r.Err(), api.ErrForm, 1)
-	}
-	if v := Read(nil); !equal(v, api.Value{}) {
-		t.Error("Read of nil:", v)
-	}
-	if v := Read(pack.NewReader(nil)); !equal(v, api.Value{}) {
-		t.Error("Read of nothing:", v)
-	}
-}
-
-// TestReadSeveral: P8.2: values one behind the other.
-func TestReadSeveral(t *testing.T) {
-	var all []byte
-	for _, c := range valueBytes {
-		all = append(all, c.b...)
-	}
-	r := pack.NewReader(all)
-	for _, c := range valueBytes {
-		if v := Read(r); !equal(v, c.v) {
-			t.Errorf("Read: %v, not %v", v, c.v)
-		}
-	}
-	if r.End() != nil {
-		t.Error(r.End())
-	}
-}
-
-// TestBytesOwn: bytes that are handed in stay as they are, their spare room, too, and aren't kept; those that are told are new.
-func TestBytesOwn(t *testing.T) {
-	for _, c := range valueBytes {
-		b := append([]byte(c.b), "spare"...)
-		v, _ := Decode(b[:len(c.b)])
-		if string(b) != c.b+"spare" {
-			t.Errorf("Decode of %x: %x", c.b, b)
-		}
-		clear(b)
-		if !equal(v, c.v) {
-			t.Errorf("Decode of %x keeps its bytes: %v", c.b, v)
-		}
-		checkOwn(t, "Encode", c.v, c.v, func(v, _ api.Value) api.Value {
-			b, _ := Encode(v)
-			clear(b)
-			back, _ := Encode(v)
-			return text(string(back))
-		})
-	}
+	code.Several(t, l...)
 }

@@ -1,17 +1,15 @@
 package value
 
 import (
-	"encoding/binary"
 	"math/rand/v2"
 	"reflect"
-	"regexp"
 	"slices"
 	"strings"
 	"testing"
 
 	"dioptre/api"
-	"dioptre/fault"
 	"dioptre/sample"
+	"dioptre/trial"
 )
 
 // chance makes numbers, always the same ones.
@@ -35,8 +33,6 @@ func inRecords(v api.Value, n int) api.Value {
 // equal holds two values against each other by the library's means.
 func equal(a, b api.Value) bool { return reflect.DeepEqual(plain(a), plain(b)) }
 
-var nameForm = regexp.MustCompile(`\A[a-z0-9_]{1,12}\z`)
-
 // wantRight: whether a value is right, by the chapter's words.
 func wantRight(v api.Value) bool {
 	want := api.Value{Kind: v.Kind}
@@ -49,12 +45,12 @@ func wantRight(v api.Value) bool {
 	case api.Text:
 		want.S, ok = v.S, len(v.S) < 65
 	case api.Enum:
-		want.S, ok = v.S, nameForm.MatchString(v.S)
+		want.S, ok = v.S, trial.Name(v.S)
 	case api.Record:
 		want.Names, want.Parts = v.Names, v.Parts
 		ok = len(v.Names) < 9 && len(v.Parts) == len(v.Names)
 		for i, name := range v.Names {
-			ok = ok && nameForm.MatchString(name) && (i == 0 || strings.Compare(v.Names[i-1], name) < 0)
+			ok = ok && trial.Name(name) && (i == 0 || strings.Compare(v.Names[i-1], name) < 0)
 		}
 	case api.List:
 		want.Ids, want.Parts = v.Ids, v.Parts
@@ -87,118 +83,43 @@ func wantSize(v api.Value) int {
 	return size
 }
 
-// wrong is the first error, and its place.
-type wrong struct {
-	code  api.Errno
-	place int
-}
-
-// model reads by the chapter's words, and panics with what is wrong.
-type model struct {
-	b  []byte
-	at int
-}
-
-func (m *model) ask(ok bool, code api.Errno, place int) {
-	if !ok {
-		panic(wrong{code, place})
-	}
-}
-
-func (m *model) byte() byte {
-	m.ask(m.at < len(m.b), api.ErrForm, m.at)
-	m.at++
-	return m.b[m.at-1]
-}
-
-func (m *model) number() uint64 {
-	n, size := binary.Uvarint(m.b[m.at:])
-	m.ask(size > 0 && size == len(binary.AppendUvarint(nil, n)), api.ErrForm, m.at)
-	m.at += size
-	return n
-}
-
-func (m *model) text() string {
-	start := m.at
-	n := m.number()
-	m.ask(n < 65, api.ErrLong, start)
-	m.ask(int(n) <= len(m.b)-m.at, api.ErrForm, start)
-	m.at += int(n)
-	return string(m.b[m.at-int(n) : m.at])
-}
-
-func (m *model) name() string {
-	s := m.text()
-	m.ask(nameForm.MatchString(s), api.ErrForm, m.at)
-	return s
-}
-
-func (m *model) value(depth int) api.Value {
-	m.ask(depth < 6, api.ErrDeep, m.at)
-	v := api.Value{Kind: int(m.byte())}
-	m.ask(v.Kind > 0 && v.Kind < 7, api.ErrKind, m.at)
+// readValue reads a value that lies so deep, by the chapter's words.
+func readValue(m *trial.Model, depth int) api.Value {
+	m.Ask(depth < 6, api.ErrDeep, m.At)
+	v := api.Value{Kind: m.Kind(6)}
 	switch v.Kind {
 	case api.Bool:
-		v.N = int(m.byte())
-		m.ask(v.N < 2, api.ErrForm, m.at-1)
+		v.N = int(m.Byte())
+		m.Ask(v.N < 2, api.ErrForm, m.At-1)
 	case api.Int:
-		n := m.number()
+		n := m.Number()
 		v.N = int(n>>1) ^ -int(n&1)
 	case api.Text:
-		v.S = m.text()
+		v.S = m.Text()
 	case api.Enum:
-		v.S = m.name()
+		v.S = m.Name()
 	case api.Record:
-		m.record(&v, depth)
+		for i := range m.Count(8) {
+			v.Names = append(v.Names, m.Name())
+			m.Ask(i == 0 || v.Names[i-1] < v.Names[i], api.ErrForm, m.At)
+			v.Parts = append(v.Parts, readValue(m, depth+1))
+		}
 	case api.List:
-		m.list(&v, depth)
+		for range m.Count(12) {
+			id := m.Number()
+			m.Ask(id > 0 && !slices.Contains(v.Ids, id), api.ErrForm, m.At)
+			v.Ids = append(v.Ids, id)
+			v.Parts = append(v.Parts, readValue(m, depth+1))
+		}
 	}
 	return v
 }
 
-func (m *model) record(v *api.Value, depth int) {
-	n := m.number()
-	m.ask(n < 9, api.ErrLong, m.at)
-	for i := range int(n) {
-		v.Names = append(v.Names, m.name())
-		m.ask(i == 0 || v.Names[i-1] < v.Names[i], api.ErrForm, m.at)
-		v.Parts = append(v.Parts, m.value(depth+1))
-	}
-}
-
-func (m *model) list(v *api.Value, depth int) {
-	n := m.number()
-	m.ask(n < 13, api.ErrLong, m.at)
-	for range n {
-		id := m.number()
-		m.ask(id > 0 && !slices.Contains(v.Ids, id), api.ErrForm, m.at)
-		v.Ids = append(v.Ids, id)
-		v.Parts = append(v.Parts, m.value(depth+1))
-	}
-}
-
-// wantRead is the value at the beginning of bytes, and how many it has; or what is wrong.
-func wantRead(b []byte) (v api.Value, size int, w wrong) {
-	defer func() {
-		if e := recover(); e != nil {
-			v, size, w = api.Value{}, 0, e.(wrong)
-		}
-	}()
-	m := &model{b: b}
-	v = m.value(1)
-	return v, m.at, wrong{}
-}
-
-// checkError: the error has that number, and just that place; none, if that is below 0.
-func checkError(t *testing.T, name string, e error, code api.Errno, place int) {
-	t.Helper()
-	var places []int
-	if place >= 0 {
-		places = []int{place}
-	}
-	if fault.Code(e) != code || !slices.Equal(fault.Places(e), places) || (e == nil) != (code == api.OK) {
-		t.Errorf("%s: %v, not %d in %v", name, e, code, places)
-	}
+// code is how values are written and read.
+var code = trial.Bytes[api.Value]{
+	Encode: Encode, Decode: Decode, Read: Read, Equal: equal,
+	Model: func(m *trial.Model) api.Value { return readValue(m, 1) },
+	Roomy: roomy, Whole: whole, Scramble: scramble,
 }
 
 // someName is a name; many are alike, or stand close to each other.

@@ -6,6 +6,7 @@ import (
 	"testing"
 
 	"dioptre/api"
+	"dioptre/trial"
 )
 
 // TestName: P8.1: of 1 to 12 bytes, each a small letter, a digit, or _ .
@@ -31,7 +32,7 @@ func TestName(t *testing.T) {
 		for i := range len(s) {
 			for c := range 256 {
 				name := s[:i] + string([]byte{byte(c)}) + s[i+1:]
-				if Name(name) != nameForm.MatchString(name) {
+				if Name(name) != trial.Name(name) {
 					t.Errorf("Name(%q) is %v", name, Name(name))
 				}
 			}
@@ -148,7 +149,7 @@ func checkRight(t *testing.T, name string, v api.Value, want bool) {
 	}
 	if !want {
 		b, e := Encode(v)
-		checkError(t, name, e, api.ErrArg, -1)
+		trial.Code(t, name, e, api.ErrArg)
 		if len(b) > 0 || Right(list([]uint64{2, 1}, num(1), v)) || Right(record([]string{"a", "b"}, v, num(1))) {
 			t.Errorf("%s: %x", name, b)
 		}

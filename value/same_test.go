@@ -5,6 +5,7 @@ import (
 	"testing"
 
 	"dioptre/api"
+	"dioptre/trial"
 )
 
 // checkSame: Same says this, whichever comes first.
@@ -140,7 +141,7 @@ func TestDeep(t *testing.T) {
 		t.Error("deep: Same")
 	}
 	_, e := Encode(v)
-	checkError(t, "deep", e, api.ErrArg, -1)
+	trial.Code(t, "deep", e, api.ErrArg)
 	x, ok := Field(record([]string{"a"}, v), "a")
 	if !ok || x.Kind != api.List || Depth(With(record(nil), "a", x)) != n+2 || Depth(Record(eight, x)) != n+2 || Depth(Without(record(nil, x), "a")) != n+2 {
 		t.Error("deep: records")
@@ -200,7 +201,7 @@ func TestRings(t *testing.T) {
 			checkSame(t, "ring", v, other, false)
 		}
 		_, e := Encode(v)
-		checkError(t, "ring", e, api.ErrArg, -1)
+		trial.Code(t, "ring", e, api.ErrArg)
 		within := record([]string{"a"}, v)
 		if x, ok := Field(within, "a"); !ok || !equal(x, api.Value{}) {
 			t.Error("ring", i, "Field")
