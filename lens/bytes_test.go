@@ -266,7 +266,7 @@ func TestBytesAny(t *testing.T) {
 	for range 15000 {
 		l := sample.SomeLens(r.IntN, someRecord(r), 5)
 		if r.IntN(5) == 0 {
-			spoil(r, &l)
+			sample.SpoilLens(r.IntN, &l)
 		}
 		want := wantBytes(l)
 		switch {

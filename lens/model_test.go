@@ -24,41 +24,10 @@ var (
 	of, listOf, recordOf               = sample.Of, sample.ListOf, sample.RecordOf
 	plain, roomy, whole, scramble      = sample.PlainLens, sample.RoomyLens, sample.WholeLens, sample.ScrambleLens
 	plainOf, roomyOf, wholeOf, spoilOf = sample.PlainSchema, sample.RoomySchema, sample.WholeSchema, sample.ScrambleSchema
+	rename, add, remove                = sample.Rename, sample.Add, sample.Remove
+	hoist, plunge, wrap, head          = sample.Hoist, sample.Plunge, sample.Wrap, sample.Head
+	convert, in, each, within          = sample.Convert, sample.In, sample.Map, sample.Within
 )
-
-func rename(a, b string) api.Lens { return api.Lens{Kind: api.Rename, A: a, B: b} }
-
-func add(a string, s api.Schema, v api.Value) api.Lens {
-	return api.Lens{Kind: api.Add, A: a, Type: s, Base: v}
-}
-
-func remove(a string, s api.Schema, v api.Value) api.Lens {
-	return api.Lens{Kind: api.Remove, A: a, Type: s, Base: v}
-}
-
-func hoist(a, b string) api.Lens { return api.Lens{Kind: api.Hoist, A: a, B: b} }
-
-func plunge(a, b string) api.Lens { return api.Lens{Kind: api.Plunge, A: a, B: b} }
-
-func wrap(a string) api.Lens { return api.Lens{Kind: api.Wrap, A: a} }
-
-func head(a string) api.Lens { return api.Lens{Kind: api.Head, A: a} }
-
-func convert(a string, s api.Schema, base, back api.Value, pairs ...api.Pair) api.Lens {
-	return api.Lens{Kind: api.Convert, A: a, Type: s, Base: base, Back: back, Pairs: pairs}
-}
-
-func in(a string, l ...api.Lens) api.Lens { return api.Lens{Kind: api.In, A: a, Inner: l} }
-
-func each(a string, l ...api.Lens) api.Lens { return api.Lens{Kind: api.Map, A: a, Inner: l} }
-
-// within is a lens within so many others.
-func within(l api.Lens, n int) api.Lens {
-	for i := range n {
-		l = api.Lens{Kind: api.In + i%2, A: "a", Inner: []api.Lens{l}}
-	}
-	return l
-}
 
 // simple tells whether a kind has no parts.
 func simple(kind int) bool { return kind >= api.Bool && kind <= api.Enum }
@@ -308,41 +277,5 @@ func someRecord(r *rand.Rand) api.Schema {
 		if s := sample.SomeSchema(r.IntN, 2+r.IntN(4)); s.Kind == api.Record {
 			return s
 		}
-	}
-}
-
-// spoil changes something in a lens, itself or one within: mostly it isn't right then, or goes on another schema.
-func spoil(r *rand.Rand, l *api.Lens) {
-	if len(l.Inner) > 0 && r.IntN(3) > 0 {
-		spoil(r, &l.Inner[r.IntN(len(l.Inner))])
-		return
-	}
-	values := []api.Value{{}, num(1), truth(1), {N: 1}, {S: "a"}, word("a"), text(""), fields(nil), list(nil), truth(2), {Kind: 7}, {Ids: []uint64{1}}}
-	schemas := []api.Schema{{}, of(api.Int), of(api.Bool), of(api.Enum, "b", "a"), of(api.Enum), listOf(of(api.Int)), recordOf(nil), {Kind: 7}, {Words: []string{"a"}}, of(api.Text, "a")}
-	names := []string{"", "A", "abcdefghijklm", l.A, l.B, sample.SomeName(r.IntN)}
-	some := func() api.Value { return values[r.IntN(len(values))] }
-	switch r.IntN(11) {
-	case 0:
-		l.Kind = r.IntN(14) - 2
-	case 1:
-		l.A = names[r.IntN(len(names))]
-	case 2:
-		l.B = names[r.IntN(len(names))]
-	case 3:
-		l.Type = schemas[r.IntN(len(schemas))]
-	case 4:
-		l.Base = some()
-	case 5:
-		l.Back = some()
-	case 6:
-		l.Pairs = append(l.Pairs, api.Pair{X: some(), Y: some()})
-	case 7:
-		l.Pairs = append(l.Pairs, l.Pairs[len(l.Pairs)/2:]...)
-	case 8:
-		l.Inner = append(l.Inner, wrap("a"))
-	case 9:
-		l.Inner = nil
-	default:
-		*l = within(*l, 1+r.IntN(4))
 	}
 }

@@ -207,7 +207,7 @@ func TestRightAny(t *testing.T) {
 		l := sample.SomeLens(r.IntN, someRecord(r), 5)
 		checkRight(t, "some", l, true)
 		for range r.IntN(3) {
-			spoil(r, &l)
+			sample.SpoilLens(r.IntN, &l)
 		}
 		if Right(l) != wantRight(l) {
 			t.Fatalf("Right of %v: %v", l, Right(l))

@@ -281,7 +281,7 @@ func TestTargetAny(t *testing.T) {
 		s := someRecord(r)
 		l := sample.SomeLens(r.IntN, s, 5)
 		if r.IntN(3) == 0 {
-			spoil(r, &l)
+			sample.SpoilLens(r.IntN, &l)
 		}
 		if r.IntN(9) == 0 {
 			s = sample.SomeSchema(r.IntN, 5)

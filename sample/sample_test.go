@@ -92,6 +92,28 @@ func TestLensRoom(t *testing.T) {
 	}
 }
 
+// TestLenses: each maker makes a right lens of its kind; spoilt, most aren't right, and each kind of fault comes.
+func TestLenses(t *testing.T) {
+	r := rand.New(rand.NewPCG(3, 2026))
+	all := []api.Lens{Rename("a", "b"), Add("a", Of(api.Int), Num(1)), Remove("a", Of(api.Int), Num(1)), Hoist("a", "b"), Plunge("a", "b"), Wrap("a"), Head("a"), Convert("a", Of(api.Int), Num(1), Num(2), api.Pair{X: Num(3), Y: Num(4)}), In("a", Wrap("b")), Map("a", Wrap("b"))}
+	for i, l := range all {
+		if l.Kind != i+1 || l.A != "a" || !lens.Right(l) || !lens.Right(Within(l, 5-lens.Depth(l))) || lens.Depth(Within(l, 7)) != 7+lens.Depth(l) {
+			t.Errorf("%v, within others: %v", l, Within(l, 2))
+		}
+		wrong := 0
+		for range 300 {
+			x := PlainLens(l)
+			SpoilLens(r.IntN, &x)
+			if !lens.Right(x) {
+				wrong++
+			}
+		}
+		if wrong < 150 || wrong == 300 {
+			t.Errorf("%v: spoilt, %d of 300 aren't right", l, wrong)
+		}
+	}
+}
+
 // TestSomeLens: lenses are right, mostly go on the schema, and are of each kind.
 func TestSomeLens(t *testing.T) {
 	r := rand.New(rand.NewPCG(2, 2026))
