@@ -264,7 +264,7 @@ func TestBytesAny(t *testing.T) {
 	r := chance()
 	count := map[bool]int{}
 	for range 15000 {
-		l := sample.SomeLens(r.IntN, someRecord(r), 5)
+		l := sample.SomeLens(r.IntN, sample.SomeRecord(r.IntN), 5)
 		if r.IntN(5) == 0 {
 			sample.SpoilLens(r.IntN, &l)
 		}

@@ -270,12 +270,3 @@ func equal(a, b api.Lens) bool { return reflect.DeepEqual(plain(a), plain(b)) }
 
 // equalOf holds two schemas against each other likewise.
 func equalOf(a, b api.Schema) bool { return reflect.DeepEqual(plainOf(a), plainOf(b)) }
-
-// someRecord is a record's schema, mostly with fields.
-func someRecord(r *rand.Rand) api.Schema {
-	for {
-		if s := sample.SomeSchema(r.IntN, 2+r.IntN(4)); s.Kind == api.Record {
-			return s
-		}
-	}
-}

@@ -204,7 +204,7 @@ func TestRightAny(t *testing.T) {
 	r := chance()
 	count := map[bool]int{}
 	for range 20000 {
-		l := sample.SomeLens(r.IntN, someRecord(r), 5)
+		l := sample.SomeLens(r.IntN, sample.SomeRecord(r.IntN), 5)
 		checkRight(t, "some", l, true)
 		for range r.IntN(3) {
 			sample.SpoilLens(r.IntN, &l)

@@ -278,7 +278,7 @@ func TestTargetAny(t *testing.T) {
 	r := chance()
 	count, kinds := map[api.Errno]int{}, map[int]int{}
 	for range 20000 {
-		s := someRecord(r)
+		s := sample.SomeRecord(r.IntN)
 		l := sample.SomeLens(r.IntN, s, 5)
 		if r.IntN(3) == 0 {
 			sample.SpoilLens(r.IntN, &l)

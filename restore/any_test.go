@@ -83,7 +83,7 @@ func TestAny(t *testing.T) {
 	r := chance()
 	kinds, ties, lossless, changed := map[int]int{}, 0, 0, 0
 	for range 3000 {
-		s := someRecord(r)
+		s := sample.SomeRecord(r.IntN)
 		l := sample.SomeLens(r.IntN, s, 5)
 		if r.IntN(20) == 0 {
 			sample.SpoilLens(r.IntN, &l)
@@ -100,9 +100,9 @@ func TestAny(t *testing.T) {
 		checkBoth(t, l, s, a, b, seed)
 		v := wantForward(l, s, a, b, seed)
 		checkBoth(t, l, s, a, v, seed)
-		beside := near(r, u, v)
+		beside := sample.Near(r.IntN, u, v)
 		checkBoth(t, l, s, a, beside, seed)
-		checkBoth(t, l, s, near(r, s, wantBack(l, s, b, a, seed)), b, seed)
+		checkBoth(t, l, s, sample.Near(r.IntN, s, wantBack(l, s, b, a, seed)), b, seed)
 		if wantLossless(l) {
 			lossless++
 		}
@@ -128,7 +128,7 @@ func TestAnyFit(t *testing.T) {
 	r := chance()
 	count := map[api.Errno]int{}
 	for range 3000 {
-		s := someRecord(r)
+		s := sample.SomeRecord(r.IntN)
 		l := sample.SomeLens(r.IntN, s, 5)
 		u, e := lens.Target(l, s)
 		if e != nil {
@@ -275,7 +275,9 @@ func TestOwn(t *testing.T) {
 		Related(l, s, a, b)
 		Lossless(l)
 		for _, v := range tell() {
-			scrambleParts(t, v)
+			if !sample.Apart(v) {
+				t.Errorf("%s: two parts of an answer share", c.name)
+			}
 		}
 		if !unchanged() {
 			t.Errorf("%s: an answer shares with what is handed in, or that has changed", c.name)
@@ -293,22 +295,6 @@ func TestOwn(t *testing.T) {
 	}
 }
 
-// scrambleParts scrambles a value, one part after the other: those behind stay as they are.
-func scrambleParts(t *testing.T, v api.Value) {
-	t.Helper()
-	kept := plain(v)
-	for i, x := range v.Parts {
-		scrambleParts(t, x)
-		scramble(x)
-		for k := i + 1; k < len(v.Parts); k++ {
-			if !equal(v.Parts[k], kept.Parts[k]) {
-				t.Errorf("two parts of %v share", kept)
-			}
-		}
-	}
-	scramble(v)
-}
-
 // TestOwnBase: elements that come by the first one of an inner Add share nothing with each other, nor with the Base.
 func TestOwnBase(t *testing.T) {
 	base := roomy(doc("[1:1,2:2]"))
@@ -319,9 +305,8 @@ func TestOwnBase(t *testing.T) {
 		t.Fatal(text(v), e)
 	}
 	before := whole(base)
-	scrambleParts(t, v)
-	if !reflect.DeepEqual(whole(base), before) {
-		t.Error("the Base has changed:", base)
+	if !sample.Apart(v) || !reflect.DeepEqual(whole(base), before) {
+		t.Error("two elements share, or the Base has changed:", base)
 	}
 }
 

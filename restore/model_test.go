@@ -8,9 +8,9 @@ import (
 
 	"dioptre/api"
 	"dioptre/lens"
-	"dioptre/note"
 	"dioptre/sample"
 	"dioptre/schema"
+	"dioptre/told"
 )
 
 // chance makes numbers, always the same ones.
@@ -27,25 +27,8 @@ var (
 	convert, in, each, within          = sample.Convert, sample.In, sample.Map, sample.Within
 	roomyOf, wholeOf, spoilOf          = sample.RoomySchema, sample.WholeSchema, sample.ScrambleSchema
 	roomyLens, wholeLens, scrambleLens = sample.RoomyLens, sample.WholeLens, sample.ScrambleLens
+	doc, text                          = told.Doc, told.Text
 )
-
-// doc is the value of a text.
-func doc(s string) api.Value {
-	v, e := note.Parse(s)
-	if e != nil {
-		panic("no value's text: " + s)
-	}
-	return v
-}
-
-// text is a value's text, or that it isn't right.
-func text(v api.Value) string {
-	s, e := note.Print(v)
-	if e != nil {
-		return "not right"
-	}
-	return s
-}
 
 // equal holds two values against each other by the library's means; a list without elements is the same as none.
 func equal(a, b api.Value) bool { return reflect.DeepEqual(plain(a), plain(b)) }
@@ -261,36 +244,4 @@ func wantLossless(l api.Lens) bool {
 		l = l.Inner[0]
 	}
 	return ok && slices.Contains([]int{api.Rename, api.Hoist, api.Plunge}, l.Kind)
-}
-
-// someRecord is a record's schema, mostly with fields.
-func someRecord(r *rand.Rand) api.Schema {
-	for {
-		if s := sample.SomeSchema(r.IntN, 2+r.IntN(4)); s.Kind == api.Record {
-			return s
-		}
-	}
-}
-
-// near is a value that fits the schema, as this one does, and differs from it in little, or in nothing.
-func near(r *rand.Rand, s api.Schema, v api.Value) api.Value {
-	v = plain(v)
-	if len(v.Parts) > 0 && r.IntN(4) > 0 {
-		i := r.IntN(len(v.Parts))
-		v.Parts[i] = near(r, s.Parts[min(i, len(s.Parts)-1)], v.Parts[i])
-		return v
-	}
-	if len(v.Ids) > 1 && r.IntN(3) > 0 {
-		last := len(v.Ids) - 1
-		switch r.IntN(3) {
-		case 0:
-			v.Ids[0], v.Ids[last] = v.Ids[last], v.Ids[0]
-		case 1:
-			v.Ids, v.Parts = v.Ids[:last], v.Parts[:last]
-		case 2:
-			v.Ids[r.IntN(len(v.Ids))] = 99
-		}
-		return v
-	}
-	return sample.SomeFit(r.IntN, s)
 }

@@ -54,6 +54,22 @@ func Scramble(v api.Value) {
 	}
 }
 
+// Apart tells whether no two of a value's parts share a list with each other, or with the value; it overwrites all that they hold.
+func Apart(v api.Value) bool {
+	kept := Plain(v)
+	apart := true
+	for i, x := range v.Parts {
+		apart = Apart(x) && apart && slices.Equal(v.Names, kept.Names) && slices.Equal(v.Ids, kept.Ids) && slices.EqualFunc(v.Parts[i+1:], kept.Parts[i+1:], same)
+	}
+	Scramble(v)
+	return apart
+}
+
+// same tells whether two values are the same; a list without elements is the same as none.
+func same(v, w api.Value) bool {
+	return v.Kind == w.Kind && v.N == w.N && v.S == w.S && slices.Equal(v.Names, w.Names) && slices.Equal(v.Ids, w.Ids) && slices.EqualFunc(v.Parts, w.Parts, same)
+}
+
 // RoomyPath is the same path, with spare room in which something stands.
 func RoomyPath(p []api.Step) []api.Step {
 	return append(slices.Clone(p), api.Step{Name: "spare"}, api.Step{Id: 99})[:len(p)]

@@ -57,6 +57,92 @@ func TestSome(t *testing.T) {
 	}
 }
 
+// TestNear: a value near to one that fits a schema fits it, too; it is the same one, or another one, and each way of its lists to be others comes.
+func TestNear(t *testing.T) {
+	r := rand.New(rand.NewPCG(4, 2026))
+	alike, other, ways := 0, 0, map[string]int{}
+	for range 2000 {
+		s := ListOf(SomeSchema(r.IntN, 1+r.IntN(4)))
+		v := SomeFit(r.IntN, s)
+		kept := Plain(v)
+		w := Near(r.IntN, s, v)
+		if !schema.Fits(w, s) || !reflect.DeepEqual(Plain(v), kept) {
+			t.Fatalf("%v, near to %v: %v", s, v, w)
+		}
+		if value.Same(v, w) {
+			alike++
+			continue
+		}
+		other++
+		if slices.Equal(v.Ids, w.Ids) {
+			ways["elements"]++
+		} else if n := len(v.Ids) - 1; n > 0 && len(w.Ids) == n+1 && w.Ids[0] == v.Ids[n] && w.Ids[n] == v.Ids[0] {
+			ways["turned"]++
+		} else if n > 0 && slices.Equal(w.Ids, v.Ids[:n]) {
+			ways["shorter"]++
+		} else if len(w.Ids) == n+1 && same(List(nil, v.Parts...), List(nil, w.Parts...)) {
+			ways["number"]++
+		}
+	}
+	if min(alike, other, ways["elements"], ways["turned"], ways["shorter"], ways["number"]) < 40 {
+		t.Errorf("%d, %d, %v", alike, other, ways)
+	}
+}
+
+// TestRecords: records' schemas come, with many fields and with none.
+func TestRecords(t *testing.T) {
+	r := rand.New(rand.NewPCG(5, 2026))
+	sizes := map[int]int{}
+	for range 500 {
+		s := SomeRecord(r.IntN)
+		if s.Kind != api.Record || !schema.Right(s) {
+			t.Fatal(s)
+		}
+		sizes[len(s.Words)]++
+	}
+	if len(sizes) != 5 {
+		t.Errorf("%v", sizes)
+	}
+}
+
+// TestApart: parts that share a list, with each other or with the value, wherever these lie, and that share none.
+func TestApart(t *testing.T) {
+	sharing := func(names []string, ids []uint64, parts []api.Value) map[string]api.Value {
+		return map[string]api.Value{
+			"parts":              List(nil, List(nil, parts...), List(nil, parts...)),
+			"parts, deep within": List(nil, List(nil, List(nil, parts...)), List(nil, Num(1), List(nil, parts...))),
+			"numbers":            List(nil, List(ids), List(ids)),
+			"numbers, deep":      List(nil, Num(1), List(nil, List(ids), List(ids)), Num(1)),
+			"numbers, later":     List(nil, List(ids), Num(1), List(ids)),
+			"names":              List(nil, Record(names), Record(names)),
+			"numbers, with all":  List(ids, List(ids)),
+			"names, with all":    Record(names, Num(1), Record(names)),
+			"names, deep within": Record(names, List(nil, Record(names))),
+			"spare room":         List(nil, List(nil, parts[:1]...), List(nil, parts[1:]...)),
+		}
+	}
+	fresh := func() map[string]api.Value {
+		return sharing([]string{"a", "b"}, []uint64{3, 4}, []api.Value{Num(1), Nums(2)})
+	}
+	for name := range fresh() {
+		if Apart(fresh()[name]) {
+			t.Errorf("that share: %s", name)
+		}
+		if !Apart(Plain(fresh()[name])) {
+			t.Errorf("that share no more: %s", name)
+		}
+	}
+	for _, v := range []api.Value{Num(1), List(nil), List([]uint64{1, 2}, Nums(1, 2), Nums(1, 2)), Record([]string{"a"}, Record([]string{"a"}, Num(1)))} {
+		if !Apart(v) {
+			t.Errorf("that share nothing: %v", v)
+		}
+	}
+	v := List(nil, Nums(1))
+	if Apart(v); len(v.Parts) != 1 || v.Parts[0].N != 77 {
+		t.Errorf("it isn't overwritten: %v", v)
+	}
+}
+
 // TestSchemaRoom: as TestRoom, of schemas.
 func TestSchemaRoom(t *testing.T) {
 	s := RecordOf([]string{"a", "b"}, Of(api.Enum, "x"), ListOf(ListOf(Of(api.Int))))

@@ -34,6 +34,15 @@ func SomeSchema(pick func(n int) int, deep int) api.Schema {
 	return s
 }
 
+// SomeRecord is a record's right schema, mostly with fields.
+func SomeRecord(pick func(n int) int) api.Schema {
+	for {
+		if s := SomeSchema(pick, 2+pick(4)); s.Kind == api.Record {
+			return s
+		}
+	}
+}
+
 // SomeFit is a value that fits a right schema. Many of its elements' numbers are alike, and many of its lists are full.
 func SomeFit(pick func(n int) int, s api.Schema) api.Value {
 	v := api.Value{Kind: s.Kind}
@@ -63,3 +72,40 @@ func SomeFit(pick func(n int) int, s api.Schema) api.Value {
 
 // SomeId is an element's number; many are alike.
 func SomeId(pick func(n int) int) uint64 { return uint64(1 + pick(18)) }
+
+// Near is a value that fits a right schema, as this one does, and differs from it in little, or in nothing.
+func Near(pick func(n int) int, s api.Schema, v api.Value) api.Value {
+	v = Plain(v)
+	if len(v.Parts) > 0 && pick(4) > 0 {
+		i := pick(len(v.Parts))
+		v.Parts[i] = Near(pick, s.Parts[min(i, len(s.Parts)-1)], v.Parts[i])
+		return v
+	}
+	if len(v.Ids) > 1 && pick(3) > 0 {
+		return nearList(pick, v)
+	}
+	return SomeFit(pick, s)
+}
+
+// nearList is a list of the caller's own that is turned about, is shorter, or has another number; it has two elements or more.
+func nearList(pick func(n int) int, v api.Value) api.Value {
+	last := len(v.Ids) - 1
+	switch pick(3) {
+	case 0:
+		v.Ids[0], v.Ids[last] = v.Ids[last], v.Ids[0]
+	case 1:
+		v.Ids, v.Parts = v.Ids[:last], v.Parts[:last]
+	case 2:
+		v.Ids[pick(len(v.Ids))] = newId(pick, v.Ids)
+	}
+	return v
+}
+
+// newId is an element's number that isn't one of these, of which there are at most as many as a list may have.
+func newId(pick func(n int) int, ids []uint64) uint64 {
+	for {
+		if id := SomeId(pick); !slices.Contains(ids, id) {
+			return id
+		}
+	}
+}
