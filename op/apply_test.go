@@ -244,8 +244,7 @@ func TestApplyOwn(t *testing.T) {
 		before := whole(got)
 		scramble(v)
 		for _, o := range l {
-			scramble(o.Value)
-			clear(o.Path[:cap(o.Path)])
+			scrambleOp(o)
 		}
 		if !equalValues(whole(got), before) {
 			t.Fatalf("what is handed in is kept: %v, not %v", got, before)

@@ -19,23 +19,13 @@ func chance() *rand.Rand { return rand.New(rand.NewPCG(12, 2026)) }
 
 // What the tests are made of.
 var (
-	num, truth, text, word             = sample.Num, sample.Truth, sample.Text, sample.Word
-	record, list, nums, inLists        = sample.Record, sample.List, sample.Nums, sample.InLists
-	of, listOf, recordOf, steps        = sample.Of, sample.ListOf, sample.RecordOf, sample.Steps
-	plainValue, roomy, whole, scramble = sample.Plain, sample.Roomy, sample.Whole, sample.Scramble
+	num, truth, text, word              = sample.Num, sample.Truth, sample.Text, sample.Word
+	record, list, nums, inLists         = sample.Record, sample.List, sample.Nums, sample.InLists
+	of, listOf, recordOf, steps         = sample.Of, sample.ListOf, sample.RecordOf, sample.Steps
+	plainValue, roomy, whole, scramble  = sample.Plain, sample.Roomy, sample.Whole, sample.Scramble
+	plain, roomyOp, wholeOp, scrambleOp = sample.PlainOp, sample.RoomyOp, sample.WholeOp, sample.ScrambleOp
+	set, insert, remove, move           = sample.Set, sample.Insert, sample.Delete, sample.Move
 )
-
-func set(p []api.Step, x api.Value) api.Op { return api.Op{Kind: api.Set, Path: p, Value: x} }
-
-func insert(p []api.Step, id, after uint64, x api.Value) api.Op {
-	return api.Op{Kind: api.Insert, Path: p, Id: id, After: after, Value: x}
-}
-
-func remove(p []api.Step, id uint64) api.Op { return api.Op{Kind: api.Delete, Path: p, Id: id} }
-
-func move(p []api.Step, id, after uint64) api.Op {
-	return api.Op{Kind: api.Move, Path: p, Id: id, After: after}
-}
 
 // empty tells whether a value is the zero one.
 func empty(v api.Value) bool {
@@ -202,101 +192,20 @@ func readOp(m *trial.Model) (o api.Op) {
 // code is how operations are written and read.
 var code = trial.Bytes[api.Op]{
 	Encode: Encode, Decode: Decode, Read: Read, Write: Write, Equal: equal, Model: readOp,
-	Roomy: roomyOp, Whole: wholeOp, Scramble: func(o api.Op) {
-		scramble(o.Value)
-		sample.ScramblePath(o.Path)
-	},
+	Roomy: roomyOp, Whole: wholeOp, Scramble: scrambleOp,
 }
 
 // equal holds two operations against each other; a list without elements is the same as none.
 func equal(a, b api.Op) bool { return reflect.DeepEqual(plain(a), plain(b)) }
 
-// plain is the same operation, with nil for lists without elements.
-func plain(o api.Op) api.Op {
-	o.Path, o.Value = append([]api.Step(nil), o.Path...), plainValue(o.Value)
-	return o
-}
-
 // equalValues holds two values against each other.
 func equalValues(a, b api.Value) bool { return reflect.DeepEqual(plainValue(a), plainValue(b)) }
 
-// somePath is a path that mostly leads somewhere in a value.
-func somePath(r *rand.Rand, v api.Value) []api.Step {
-	all := path.All(v)
-	p := all[r.IntN(len(all))]
-	switch r.IntN(12) {
-	case 0:
-		return append(p, api.Step{Name: sample.SomeName(r.IntN)})
-	case 1:
-		return append(p, api.Step{Id: sample.SomeId(r.IntN)})
-	case 2:
-		if len(p) > 0 {
-			p[r.IntN(len(p))] = []api.Step{{Name: "a"}, {Id: 3}, {Id: 99}, {}, {Name: "A"}, {Name: "a", Id: 1}}[r.IntN(6)]
-		}
-	}
-	return p
-}
-
 // someOp is an operation that mostly is right, and often fits the schema, which the value does.
 func someOp(r *rand.Rand, s api.Schema, v api.Value) api.Op {
-	o := api.Op{Kind: 1 + r.IntN(4), Path: somePath(r, v)}
-	if o.Kind > api.Set {
-		// Most lists stand deep: a few tries find one.
-		for range 5 {
-			if t, _ := path.Type(s, o.Path...); t.Kind != api.List {
-				o.Path = somePath(r, v)
-			}
-		}
-		o.Id = sample.SomeId(r.IntN)
-		if x, _ := path.Get(v, o.Path...); len(x.Ids) > 0 && o.Kind != api.Insert && r.IntN(2) == 0 {
-			o.Id = x.Ids[r.IntN(len(x.Ids))]
-		}
-	}
-	t, ok := path.Type(s, o.Path...)
-	if o.Kind == api.Insert && t.Kind == api.List {
-		t = t.Parts[0]
-	}
-	if o.Kind <= api.Insert {
-		o.Value = num(7)
-		if ok && r.IntN(9) > 0 {
-			o.Value = sample.SomeFit(r.IntN, t)
-		}
-	}
-	if (o.Kind == api.Insert || o.Kind == api.Move) && r.IntN(4) > 0 {
-		o.After = sample.SomeId(r.IntN)
-	}
+	o := sample.SomeOp(r.IntN, s, v)
 	if r.IntN(10) == 0 {
-		spoil(r, &o)
+		sample.SpoilOp(r.IntN, &o)
 	}
-	return o
-}
-
-// spoil changes something in an operation: mostly it isn't right then.
-func spoil(r *rand.Rand, o *api.Op) {
-	switch r.IntN(6) {
-	case 0:
-		o.Kind = r.IntN(8) - 2
-	case 1:
-		o.Id = r.Uint64N(2) * sample.SomeId(r.IntN)
-	case 2:
-		o.After = r.Uint64N(2) * sample.SomeId(r.IntN)
-	case 3:
-		o.After = o.Id
-	case 4:
-		o.Value = []api.Value{{}, num(1), {N: 1}, {S: "a"}, {Kind: 7}, truth(2), list(nil), {Ids: []uint64{1}}, {Names: []string{"a"}}, {Parts: []api.Value{{}}}}[r.IntN(10)]
-	default:
-		o.Path = append(o.Path, []api.Step{{}, {Name: "A"}, {Name: "a", Id: 1}, {Name: "abcdefghijklm"}}[r.IntN(4)])
-	}
-}
-
-// roomyOp is the same operation, whose lists have spare room in which something stands.
-func roomyOp(o api.Op) api.Op {
-	o.Path, o.Value = sample.RoomyPath(o.Path), roomy(o.Value)
-	return o
-}
-
-// wholeOp is a copy of an operation with its spare room.
-func wholeOp(o api.Op) api.Op {
-	o.Path, o.Value = slices.Clone(o.Path[:cap(o.Path)]), whole(o.Value)
 	return o
 }

@@ -105,7 +105,7 @@ func TestRightAny(t *testing.T) {
 		s := sample.SomeSchema(r.IntN, 4)
 		o := someOp(r, s, sample.SomeFit(r.IntN, s))
 		for range r.IntN(3) {
-			spoil(r, &o)
+			sample.SpoilOp(r.IntN, &o)
 		}
 		if Right(o) != wantRight(o) {
 			t.Fatalf("Right of %v: %v", o, Right(o))

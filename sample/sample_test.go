@@ -1,6 +1,7 @@
 package sample
 
 import (
+	"maps"
 	"math/rand/v2"
 	"reflect"
 	"slices"
@@ -8,7 +9,9 @@ import (
 
 	"dioptre/api"
 	"dioptre/lens"
+	"dioptre/op"
 	"dioptre/pack"
+	"dioptre/path"
 	"dioptre/schema"
 	"dioptre/value"
 )
@@ -224,6 +227,128 @@ func TestSomeLens(t *testing.T) {
 	}
 	if l := SomeLens(r.IntN, RecordOf(nil), 5); l.Kind != api.Add || !lens.Right(l) {
 		t.Error("of an empty record:", l)
+	}
+}
+
+// TestOpRoom: as TestRoom, of operations.
+func TestOpRoom(t *testing.T) {
+	o := Insert(Steps("a", 3), 4, 5, Record([]string{"b"}, Nums(1)))
+	kept := PlainOp(o)
+	m := RoomyOp(o)
+	all := WholeOp(m)
+	if !reflect.DeepEqual(PlainOp(m), kept) || len(all.Path) < 4 || len(all.Value.Names) < 3 || len(all.Value.Parts) < 3 || !reflect.DeepEqual(PlainOp(api.Op{Path: []api.Step{}}), api.Op{}) {
+		t.Errorf("PlainOp, RoomyOp, WholeOp: %v, %v", m, all)
+	}
+	copied := PlainOp(m)
+	ScrambleOp(m)
+	if m.Path[:3][2].Name != "scrambled" || m.Path[0].Name != "scrambled" || m.Value.Names[0] != "scrambled" || m.Value.Parts[0].N != 77 {
+		t.Errorf("ScrambleOp: %v", m)
+	}
+	if !reflect.DeepEqual(PlainOp(o), kept) || !reflect.DeepEqual(copied, kept) || all.Path[0].Name != "a" {
+		t.Errorf("ScrambleOp has changed another one: %v, %v, %v", o, copied, all)
+	}
+}
+
+// TestOps: each maker makes a right operation of its kind; spoilt, most aren't right, and each field comes to be another one.
+func TestOps(t *testing.T) {
+	r := rand.New(rand.NewPCG(6, 2026))
+	p := Steps("a", 3)
+	for i, o := range []api.Op{Set(p, Num(1)), Insert(p, 4, 5, Num(1)), Delete(p, 4), Move(p, 4, 5)} {
+		if o.Kind != i+1 || len(o.Path) != 2 || !op.Right(o) || o.Kind > api.Set && o.Id != 4 || (o.Kind == api.Insert || o.Kind == api.Move) && o.After != 5 {
+			t.Errorf("%v", o)
+		}
+		wrong, others := 0, map[string]bool{}
+		for range 300 {
+			x := o
+			SpoilOp(r.IntN, &x)
+			if !op.Right(x) {
+				wrong++
+			}
+			for what, is := range map[string]bool{
+				"kind": x.Kind != o.Kind, "path": len(x.Path) == 3, "id": x.Id != o.Id, "after": x.After != o.After, "itself": x.After == o.Id, "value": !value.Same(x.Value, o.Value),
+			} {
+				others[what] = others[what] || is
+			}
+		}
+		if wrong < 150 || wrong == 300 || len(others) != 6 || slices.Contains(slices.Collect(maps.Values(others)), false) {
+			t.Errorf("%v: spoilt, %d of 300 aren't right; %v", o, wrong, others)
+		}
+		if !slices.Equal(p, Steps("a", 3)) {
+			t.Fatal("SpoilOp has changed a path that isn't its own")
+		}
+	}
+}
+
+// TestPaths: paths, types and lists in values are those that the layers tell; paths share nothing.
+func TestPaths(t *testing.T) {
+	r := rand.New(rand.NewPCG(8, 2026))
+	for range 500 {
+		s := SomeSchema(r.IntN, 1+r.IntN(5))
+		v := SomeFit(r.IntN, s)
+		all := paths(v)
+		if !slices.EqualFunc(all, path.All(v), slices.Equal) {
+			t.Fatalf("%v: %v", v, all)
+		}
+		for _, p := range append(all, Steps("a"), Steps(3), Steps("x", "x"), Steps("b", 3, "b")) {
+			x, _ := path.Get(v, p...)
+			u, _ := path.Type(s, p...)
+			if !slices.Equal(idsAt(v, p), x.Ids) || !schema.Same(typeAt(s, p), u) {
+				t.Fatalf("%v, %v at %v: %v, %v", s, v, p, typeAt(s, p), idsAt(v, p))
+			}
+			ScramblePath(p)
+		}
+		for _, p := range all {
+			if slices.ContainsFunc(p, func(x api.Step) bool { return x.Name != "scrambled" }) {
+				t.Fatal(all)
+			}
+		}
+		if again := paths(v); !slices.EqualFunc(again, path.All(v), slices.Equal) {
+			t.Fatal(again)
+		}
+	}
+}
+
+// TestSomeOp: operations are right, many fit the schema, and are of each kind; each kind makes something of documents, and goes where nothing stands.
+func TestSomeOp(t *testing.T) {
+	r := rand.New(rand.NewPCG(7, 2026))
+	fit, other, nothing, after, nowhere := map[int]int{}, map[int]int{}, map[int]int{}, map[bool]int{}, map[int]int{}
+	for range 5000 {
+		s := SomeSchema(r.IntN, 1+r.IntN(5))
+		v := SomeFit(r.IntN, s)
+		kept := Plain(v)
+		o := SomeOp(r.IntN, s, v)
+		if o.Kind == api.Insert || o.Kind == api.Move {
+			after[o.After > 0]++
+		}
+		if _, ok := path.Get(v, o.Path...); !ok {
+			nowhere[min(len(o.Path), 3)]++
+		}
+		if !op.Right(o) || !reflect.DeepEqual(Plain(v), kept) {
+			t.Fatalf("%v, of %v", o, v)
+		}
+		if op.Check(o, s) != nil {
+			continue
+		}
+		fit[o.Kind]++
+		if value.Same(op.Apply(s, v, o), v) {
+			nothing[o.Kind]++
+		} else {
+			other[o.Kind]++
+		}
+	}
+	for kind := api.Set; kind <= api.Move; kind++ {
+		if fit[kind] < 250 || other[kind] < 60 || nothing[kind] < 50 {
+			t.Errorf("kind %d: %d fit, %d make something, %d nothing", kind, fit[kind], other[kind], nothing[kind])
+		}
+	}
+	if min(after[true], after[false]) < 300 || min(nowhere[1], nowhere[2], nowhere[3]) < 50 {
+		t.Errorf("behind another one, ahead of all: %v; where nothing stands: %v", after, nowhere)
+	}
+	// The value needn't fit the schema.
+	for range 500 {
+		if o := SomeOp(r.IntN, SomeSchema(r.IntN, 5), SomeFit(r.IntN, SomeSchema(r.IntN, 5))); !op.Right(o) {
+			t.Fatal(o)
+		}
 	}
 }
 

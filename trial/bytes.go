@@ -12,8 +12,8 @@ import (
 type Bytes[X any] struct {
 	Encode func(x X) ([]byte, error)
 	Decode func(b []byte) (X, error)
-	Read   func(r *pack.Reader) X
-	// Write is nil, if the layer has none.
+	// Read and Write are nil, if the layer has none.
+	Read  func(r *pack.Reader) X
 	Write func(w *pack.Writer, x X)
 	Equal func(x, y X) bool
 	Model func(m *Model) X
@@ -90,7 +90,7 @@ func (c Bytes[X]) Refused(t T, name string, x X, code api.Errno) {
 	}
 }
 
-// Decoded holds Decode, and Read behind other bytes, against the model; what is decoded has just these bytes. It tells whether they are right.
+// Decoded holds Decode, and Read, if there is one, behind other bytes, against the model; what is decoded has just these bytes. It tells whether they are right.
 func (c Bytes[X]) Decoded(t T, b []byte) bool {
 	t.Helper()
 	want, size, w := Of(b, c.Model)
@@ -121,6 +121,9 @@ func (c Bytes[X]) Decoded(t T, b []byte) bool {
 // readAt holds Read, of a reader that stands behind two bytes, against the model: it stands behind what it read, or where that is wrong.
 func (c Bytes[X]) readAt(t T, b []byte, want X, size int, w Wrong) {
 	t.Helper()
+	if c.Read == nil {
+		return
+	}
 	r := pack.NewReader(append([]byte{7, 7}, b...))
 	r.Raw(2)
 	place := 2 + size
@@ -156,18 +159,19 @@ func (c Bytes[X]) Fails(t T, name, b string, w Wrong) {
 	}
 }
 
-// TooLong asks that bytes that are too many are refused as a whole.
+// TooLong asks that bytes that are too many are refused as a whole; they stay as they are.
 func (c Bytes[X]) TooLong(t T, b []byte) {
 	t.Helper()
+	kept := slices.Clone(b)
 	x, e := c.Decode(b)
 	Code(t, "Decode of too many", e, api.ErrLong)
 	var none X
-	if !c.Equal(x, none) {
-		t.Errorf("Decode of too many: %v", x)
+	if !c.Equal(x, none) || !slices.Equal(b, kept) {
+		t.Errorf("Decode of too many: %v, %x", x, b)
 	}
 }
 
-// Sized holds a right thing against the limit: more than MaxBytes bytes are neither told nor taken, but they are read.
+// Sized holds a right thing against the limit: more than MaxBytes bytes are neither told nor taken, but they are read, if the layer reads.
 func (c Bytes[X]) Sized(t T, x X, b []byte) {
 	t.Helper()
 	if len(b) <= api.MaxBytes {
@@ -177,6 +181,9 @@ func (c Bytes[X]) Sized(t T, x X, b []byte) {
 	}
 	c.Refused(t, "too many bytes", x, api.ErrLong)
 	c.TooLong(t, b)
+	if c.Read == nil {
+		return
+	}
 	r := pack.NewReader(b)
 	if got := c.Read(r); r.End() != nil || !c.Equal(got, x) {
 		t.Errorf("Read of %d bytes: %v %v", len(b), got, r.End())
@@ -200,6 +207,9 @@ func (c Bytes[X]) own(t T, x X, b string) {
 // broken asks that readers that were broken ahead of a thing stay so, and nil ones and such without bytes tell zero.
 func (c Bytes[X]) broken(t T, b string) {
 	t.Helper()
+	if c.Read == nil {
+		return
+	}
 	for _, code := range []api.Errno{api.ErrDeep, api.ErrForm, api.ErrSign} {
 		r := pack.NewReader([]byte("\x05" + b))
 		r.Byte()
@@ -212,7 +222,7 @@ func (c Bytes[X]) broken(t T, b string) {
 	}
 }
 
-// Several asks that things that stand one behind the other are read one by one.
+// Several asks that things that stand one behind the other are read one by one. (It is for layers that read.)
 func (c Bytes[X]) Several(t T, things ...X) {
 	t.Helper()
 	var w pack.Writer

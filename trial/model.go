@@ -2,6 +2,8 @@
 package trial
 
 import (
+	"slices"
+
 	"dioptre/api"
 	"dioptre/fault"
 	"dioptre/pack"
@@ -66,6 +68,13 @@ func (m *Model) Byte() byte {
 	return m.b[m.At-1]
 }
 
+// Raw reads so many bytes.
+func (m *Model) Raw(n int) []byte {
+	m.Ask(n <= len(m.b)-m.At, api.ErrForm, m.At)
+	m.At += n
+	return slices.Clone(m.b[m.At-n : m.At])
+}
+
 // Kind reads a kind, one of 1 to most.
 func (m *Model) Kind(most int) int {
 	kind := int(m.Byte())
@@ -102,8 +111,7 @@ func (m *Model) Text() string {
 	n := m.Number()
 	m.Ask(n <= 64, api.ErrLong, start)
 	m.Ask(n <= uint64(len(m.b)-m.At), api.ErrForm, start)
-	m.At += int(n)
-	return string(m.b[m.At-int(n) : m.At])
+	return string(m.Raw(int(n)))
 }
 
 // Name reads a name.

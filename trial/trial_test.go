@@ -2,6 +2,7 @@ package trial
 
 import (
 	"fmt"
+	"maps"
 	"math"
 	"math/rand/v2"
 	"slices"
@@ -376,7 +377,7 @@ var faults = map[string]func(c *Bytes[toy]){
 
 // caught are the checks that tell of each fault.
 var caught = map[string]string{
-	"Decode changes its bytes":              "All; Changed; Decoded; Decoded, left; Decoded, wrong; Fails; Known; Sized, 4096; Sized, 4106; own",
+	"Decode changes its bytes":              "All; Changed; Decoded; Decoded, left; Decoded, wrong; Fails; Known; Sized, 4096; Sized, 4106; TooLong; own",
 	"Decode changes spare room":             "Known; own",
 	"Decode has no limit":                   "Sized, 4106; TooLong",
 	"Decode keeps what it told":             "Known; own",
@@ -420,19 +421,46 @@ func TestChecks(t *testing.T) {
 		t.Error("told of a right layer:", n.told)
 	}
 	for name, spoil := range faults {
-		var l []string
-		for check, use := range uses {
-			var n note
-			c := toys()
-			spoil(&c)
-			use(&n, c)
-			if len(n.told) > 0 {
-				l = append(l, check)
-			}
-		}
-		slices.Sort(l)
-		if got := strings.Join(l, "; "); got != caught[name] {
+		if got := toldBy(uses, spoil); got != caught[name] {
 			t.Errorf("%s: told by %s, not by %s", name, got, caught[name])
+		}
+	}
+}
+
+// toldBy are the checks that tell something of a layer that isn't right.
+func toldBy(uses map[string]func(t T, c Bytes[toy]), spoil func(c *Bytes[toy])) string {
+	var l []string
+	for check, use := range uses {
+		var n note
+		c := toys()
+		spoil(&c)
+		use(&n, c)
+		if len(n.told) > 0 {
+			l = append(l, check)
+		}
+	}
+	slices.Sort(l)
+	return strings.Join(l, "; ")
+}
+
+// TestWithoutRead: of a layer that has no Read the checks tell the same, but for what Read alone does.
+func TestWithoutRead(t *testing.T) {
+	some := maps.Clone(uses)
+	delete(some, "Several")
+	if got := toldBy(some, func(c *Bytes[toy]) { c.Read = nil }); got != "" {
+		t.Error("told of a right layer, by", got)
+	}
+	for name, spoil := range faults {
+		want := strings.ReplaceAll(caught[name], "; Several", "")
+		if strings.HasPrefix(name, "Read") {
+			want = ""
+		}
+		got := toldBy(some, func(c *Bytes[toy]) {
+			spoil(c)
+			c.Read = nil
+		})
+		if got != want {
+			t.Errorf("%s: told by %s, not by %s", name, got, want)
 		}
 	}
 }
@@ -516,6 +544,7 @@ func TestModel(t *testing.T) {
 		check(b, func(r *pack.Reader) any { return r.Byte() }, func(m *Model) any { return m.Byte() })
 		check(b, func(r *pack.Reader) any { return r.Number(math.MaxUint64) }, func(m *Model) any { return m.Number() })
 		check(b, func(r *pack.Reader) any { return r.Text(64) }, func(m *Model) any { return m.Text() })
+		check(b, func(r *pack.Reader) any { return string(r.Raw(4)) }, func(m *Model) any { return string(m.Raw(4)) })
 		check(b, func(r *pack.Reader) any { return r.Text(64) }, func(m *Model) any { return Below(m, func(r *pack.Reader) string { return r.Text(64) }) })
 	}
 }
