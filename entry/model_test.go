@@ -25,10 +25,10 @@ var (
 	of, listOf                = sample.Of, sample.ListOf
 	set, insert, remove, move = sample.Set, sample.Insert, sample.Delete, sample.Move
 	rename, wrap, in, within  = sample.Rename, sample.Wrap, sample.In, sample.Within
+	hash, rising              = sample.Hash, sample.Hashes
+	plain, roomy              = sample.PlainEntry, sample.RoomyEntry
+	whole, scramble           = sample.WholeEntry, sample.ScrambleEntry
 )
-
-// hash is a name that begins, and ends, so.
-func hash(first, last byte) api.Hash { return api.Hash{0: first, 31: last} }
 
 // writeOf is an entry of an operation, publishOf one of a lens; nobody has signed them.
 func writeOf(o api.Op, parents ...api.Hash) api.Entry {
@@ -41,46 +41,8 @@ func publishOf(l api.Lens, parents ...api.Hash) api.Entry {
 	return e
 }
 
-// plain is the same entry, all lists of which are its own; those without elements are none.
-func plain(e api.Entry) api.Entry {
-	e.Parents, e.Op, e.Lens = append([]api.Hash(nil), e.Parents...), sample.PlainOp(e.Op), sample.PlainLens(e.Lens)
-	return e
-}
-
-// roomy is the same entry, whose lists have spare room in which something stands.
-func roomy(e api.Entry) api.Entry {
-	e.Parents = append(slices.Clone(e.Parents), hash(98, 0), hash(99, 0))[:len(e.Parents)]
-	e.Op, e.Lens = sample.RoomyOp(e.Op), sample.RoomyLens(e.Lens)
-	return e
-}
-
-// whole is a copy of an entry with its spare room.
-func whole(e api.Entry) api.Entry {
-	e.Parents, e.Op, e.Lens = slices.Clone(e.Parents[:cap(e.Parents)]), sample.WholeOp(e.Op), sample.WholeLens(e.Lens)
-	return e
-}
-
-// scramble overwrites all that an entry's lists hold, their spare room, too.
-func scramble(e api.Entry) {
-	for i := range e.Parents[:cap(e.Parents)] {
-		e.Parents[:cap(e.Parents)][i] = hash(77, 77)
-	}
-	sample.ScrambleOp(e.Op)
-	sample.ScrambleLens(e.Lens)
-}
-
 // equal holds two entries against each other by the library's means; a list without elements is the same as none.
 func equal(a, b api.Entry) bool { return reflect.DeepEqual(plain(a), plain(b)) }
-
-// ahead: whether a name is ahead of another one, byte by byte.
-func ahead(a, b api.Hash) bool {
-	for i, c := range a {
-		if c != b[i] {
-			return c < b[i]
-		}
-	}
-	return false
-}
 
 // wantFit: whether all of an entry is right but that it may have too many bytes, by the chapter's words.
 func wantFit(e api.Entry) bool {
@@ -88,7 +50,7 @@ func wantFit(e api.Entry) bool {
 	named := api.Entry{Kind: e.Kind, Version: e.Version, Parents: e.Parents, Key: e.Key, Sig: e.Sig}
 	ok := len(e.Parents) < 5
 	for i := range e.Parents {
-		ok = ok && (i == 0 || ahead(e.Parents[i-1], e.Parents[i]))
+		ok = ok && (i == 0 || trial.Ahead(e.Parents[i-1], e.Parents[i]))
 	}
 	switch e.Kind {
 	case api.Write:
@@ -148,7 +110,7 @@ func readEntry(m *trial.Model) (e api.Entry) {
 	e.Kind, e.Version = m.Kind(2), api.Hash(m.Raw(32))
 	for i := range m.Count(4) {
 		h := api.Hash(m.Raw(32))
-		m.Ask(i == 0 || ahead(e.Parents[i-1], h), api.ErrForm, m.At)
+		m.Ask(i == 0 || trial.Ahead(e.Parents[i-1], h), api.ErrForm, m.At)
 		e.Parents = append(e.Parents, h)
 	}
 	if e.Kind == api.Write {
@@ -175,11 +137,7 @@ func some(r *rand.Rand, n int) []byte {
 }
 
 // someHash is a name; many begin alike, or are alike.
-func someHash(r *rand.Rand) api.Hash {
-	var h api.Hash
-	h[[]int{0, 1, 30, 31}[r.IntN(4)]] = []byte{0, 1, 2, 127, 128, 255}[r.IntN(6)]
-	return h
-}
+func someHash(r *rand.Rand) api.Hash { return sample.SomeHash(r.IntN) }
 
 // someEntry is an entry that is right.
 func someEntry(r *rand.Rand) api.Entry {

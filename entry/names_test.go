@@ -8,6 +8,7 @@ import (
 	"testing"
 
 	"dioptre/api"
+	"dioptre/trial"
 )
 
 // TestName: P17.1: SHA-256 of any bytes, which needn't be an entry's, however many.
@@ -56,40 +57,17 @@ func TestLess(t *testing.T) {
 	r := chance()
 	for range 20000 {
 		a, b := someHash(r), someHash(r)
-		if Less(a, b) != ahead(a, b) || Less(a, b) && Less(b, a) || !Less(a, b) && !Less(b, a) && a != b {
+		if Less(a, b) != trial.Ahead(a, b) || Less(a, b) && Less(b, a) || !Less(a, b) && !Less(b, a) && a != b {
 			t.Fatalf("Less of %x, %x: %v", a, b, Less(a, b))
 		}
 	}
-}
-
-// wantSort: each name once, each ahead of the next one.
-func wantSort(l []api.Hash) []api.Hash {
-	left := map[api.Hash]bool{}
-	for _, h := range l {
-		left[h] = true
-	}
-	var sorted []api.Hash
-	for len(left) > 0 {
-		var first api.Hash
-		for i := range first {
-			first[i] = 255
-		}
-		for h := range left {
-			if ahead(h, first) {
-				first = h
-			}
-		}
-		delete(left, first)
-		sorted = append(sorted, first)
-	}
-	return sorted
 }
 
 // checkSort: Sort tells what the model tells, in new memory, and changes nothing.
 func checkSort(t *testing.T, l []api.Hash) {
 	t.Helper()
 	all := append(slices.Clone(l), hash(98, 98), hash(99, 99))
-	kept, want := slices.Clone(all), wantSort(l)
+	kept, want := slices.Clone(all), trial.Sorted(l, trial.Ahead)
 	got := Sort(all[:len(l)]...)
 	if !slices.Equal(got, want) || !slices.Equal(all, kept) {
 		t.Errorf("Sort of %x: %x", l, got)

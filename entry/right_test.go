@@ -9,11 +9,6 @@ import (
 	"dioptre/sample"
 )
 
-// rising are names in their order; some differ in their first byte, others in their last one alone.
-func rising() []api.Hash {
-	return []api.Hash{{}, hash(0, 1), hash(0, 255), hash(1, 0), hash(127, 0), hash(128, 0), hash(255, 255)}
-}
-
 // rightEntries are right, by name.
 func rightEntries() map[string]api.Entry {
 	l := rising()

@@ -67,19 +67,6 @@ func TestBytesWrong(t *testing.T) {
 	code.Refused(t, "six deep, long", within(add("a", listOf(listOf(of(api.Text))), sample.Large(5000)), 5), api.ErrArg)
 }
 
-// largeOf is a record's schema of more than 4096 bytes.
-func largeOf() api.Schema {
-	var words []string
-	for _, name := range eight {
-		words = append(words, strings.Repeat("w", 11)+name)
-	}
-	s := of(api.Enum, words...)
-	for range 2 {
-		s = recordOf(words, slices.Repeat([]api.Schema{s}, 8)...)
-	}
-	return s
-}
-
 // TestLong: P14.3: at most MaxBytes bytes, all of the lens's counted.
 func TestLong(t *testing.T) {
 	texts := listOf(listOf(of(api.Text)))
@@ -96,8 +83,8 @@ func TestLong(t *testing.T) {
 		}
 	}
 	for name, l := range map[string]api.Lens{
-		"a value of 4097": add("a", texts, sample.Large(4097)), "a value of 9000": remove("a", texts, sample.Large(9000)), "a type": add("a", listOf(largeOf()), list(nil)),
-		"a value within": in("a", each("b", add("a", texts, sample.Large(5000)))), "a type within": each("a", in("b", remove("a", listOf(largeOf()), list(nil)))),
+		"a value of 4097": add("a", texts, sample.Large(4097)), "a value of 9000": remove("a", texts, sample.Large(9000)), "a type": add("a", listOf(sample.LargeSchema(4100)), list(nil)),
+		"a value within": in("a", each("b", add("a", texts, sample.Large(5000)))), "a type within": each("a", in("b", remove("a", listOf(sample.LargeSchema(4100)), list(nil)))),
 	} {
 		checkRight(t, name, l, true)
 		code.Refused(t, name, l, api.ErrLong)

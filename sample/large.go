@@ -1,6 +1,7 @@
 package sample
 
 import (
+	"slices"
 	"strings"
 
 	"dioptre/api"
@@ -38,4 +39,21 @@ func texts(n int) api.Value {
 		n -= size
 	}
 	return v
+}
+
+// LargeSchema is a record's right schema of so many bytes, from 4089 to 4100: four records of 868 bytes, and one whose last field's last word is as long as is left.
+func LargeSchema(n int) api.Schema {
+	names := strings.Split("abcdefgh", "")
+	var words []string
+	for _, name := range names {
+		words = append(words, "abcdefghijk"+name)
+	}
+	full := Of(api.Enum, words...)
+	var parts []api.Schema
+	for range 4 {
+		parts = append(parts, RecordOf(names, slices.Repeat([]api.Schema{full}, 8)...))
+	}
+	last := Of(api.Enum, append(words[:5:5], strings.Repeat("z", n-4088))...)
+	parts = append(parts, RecordOf(names[:6], append(slices.Repeat([]api.Schema{full}, 5), last)...))
+	return RecordOf(names[:5], parts...)
 }

@@ -5,6 +5,7 @@ import (
 	"math/rand/v2"
 	"reflect"
 	"slices"
+	"strings"
 	"testing"
 
 	"dioptre/api"
@@ -364,5 +365,62 @@ func TestLarge(t *testing.T) {
 		if b, e := value.Encode(v); !value.Right(v) || len(w.Out())+len(v.Ids)+2 != n || n <= api.MaxBytes && (e != nil || len(b) != n) {
 			t.Fatalf("%d: %d, %v", n, len(w.Out()), e)
 		}
+	}
+}
+
+// TestLargeSchema: it is a record's, right but that it may have too many bytes, and has so many.
+func TestLargeSchema(t *testing.T) {
+	for n := 4089; n <= 4100; n++ {
+		s := LargeSchema(n)
+		b, e := schema.Encode(s)
+		if s.Kind != api.Record || !schema.Right(s) || (e == nil) != (n <= 4096) || e == nil && len(b) != n {
+			t.Errorf("%d: %d bytes, %v", n, len(b), e)
+		}
+	}
+}
+
+// TestHashes: names rise, at their first byte or at their last one; of any ones many are alike.
+func TestHashes(t *testing.T) {
+	if h := Hash(3, 4); h[0] != 3 || h[31] != 4 || h[1] != 0 || h[30] != 0 {
+		t.Errorf("Hash: %x", h)
+	}
+	l := Hashes()
+	first, last := 0, 0
+	for i := range l[1:] {
+		if l[i] == l[i+1] || strings.Compare(string(l[i][:]), string(l[i+1][:])) > 0 {
+			t.Errorf("Hashes: %x", l)
+		}
+		if l[i][0] == l[i+1][0] {
+			last++
+		} else {
+			first++
+		}
+	}
+	r := rand.New(rand.NewPCG(6, 2026))
+	some := map[api.Hash]int{}
+	for range 500 {
+		some[SomeHash(r.IntN)]++
+	}
+	if min(first, last) < 2 || len(some) != 21 || some[api.Hash{}] < 40 {
+		t.Errorf("%d, %d, %d, %v", first, last, len(some), some[api.Hash{}])
+	}
+}
+
+// TestEntryRoom: as TestRoom, of entries and of names.
+func TestEntryRoom(t *testing.T) {
+	e := api.Entry{Parents: Hashes()[1:3], Op: Insert(Steps("a", 3), 4, 5, Nums(1)), Lens: In("a", Add("b", ListOf(Of(api.Int)), Nums(2)))}
+	kept := PlainEntry(e)
+	m := RoomyEntry(e)
+	all := WholeEntry(m)
+	if !reflect.DeepEqual(PlainEntry(m), kept) || len(all.Parents) < 4 || len(all.Op.Path) < 4 || len(all.Lens.Inner) < 2 || !reflect.DeepEqual(PlainEntry(api.Entry{Parents: []api.Hash{}}), api.Entry{}) {
+		t.Errorf("PlainEntry, RoomyEntry, WholeEntry: %v, %v", m, all)
+	}
+	ScrambleEntry(m)
+	scrambled := WholeEntry(m)
+	if !reflect.DeepEqual(PlainEntry(e), kept) || slices.ContainsFunc(scrambled.Parents, func(h api.Hash) bool { return h != Hash(77, 77) }) {
+		t.Errorf("ScrambleEntry: %v, %v", e, scrambled)
+	}
+	if reflect.DeepEqual(scrambled.Op, all.Op) || reflect.DeepEqual(scrambled.Lens, all.Lens) {
+		t.Errorf("ScrambleEntry leaves something: %v", scrambled)
 	}
 }

@@ -7,6 +7,7 @@ import (
 
 	"dioptre/api"
 	"dioptre/pack"
+	"dioptre/sample"
 	"dioptre/trial"
 )
 
@@ -157,31 +158,10 @@ func TestDecodeAny(t *testing.T) {
 	}
 }
 
-// longWords are eight words of 12 bytes.
-func longWords() []string {
-	var l []string
-	for _, letter := range eight {
-		l = append(l, "abcdefghijk"+letter)
-	}
-	return l
-}
-
-// long is a right schema of that many bytes, from 4089 to 4100: four records of 868 bytes, and one whose last field's last word is as long as is left.
-func long(n int) api.Schema {
-	full := enum(longWords()...)
-	var parts []api.Schema
-	for range 4 {
-		parts = append(parts, record(eight, slices.Repeat([]api.Schema{full}, 8)...))
-	}
-	last := enum(append(longWords()[:5], strings.Repeat("z", n-4088))...)
-	parts = append(parts, record(eight[:6], append(slices.Repeat([]api.Schema{full}, 5), last)...))
-	return record(eight[:5], parts...)
-}
-
 // TestLong: P9.2: schemas, and bytes, of 4096 and 4097 bytes.
 func TestLong(t *testing.T) {
 	for n := 4089; n <= 4100; n++ {
-		s := long(n)
+		s := sample.LargeSchema(n)
 		if n <= 4096 {
 			b, _ := Encode(s)
 			if back, e := Decode(b); e != nil || len(b) != n || !equal(back, s) {
@@ -193,7 +173,7 @@ func TestLong(t *testing.T) {
 		s.Parts[4].Parts[5].Kind = 7
 		code.Refused(t, "too many, and not right", s, api.ErrArg)
 	}
-	b, _ := Encode(long(4096))
+	b, _ := Encode(sample.LargeSchema(4096))
 	code.Fails(t, "one byte fewer", string(b[:4095]), trial.Wrong{Code: api.ErrForm, Place: 4087})
 	code.Fails(t, "no kind", strings.Repeat("\x00", 4096), trial.Wrong{Code: api.ErrKind, Place: 1})
 	code.Fails(t, "most of it left", "\x02"+strings.Repeat("\x00", 4095), trial.Wrong{Code: api.ErrForm, Place: 1})
@@ -204,7 +184,7 @@ func TestLong(t *testing.T) {
 
 // TestReadLong: P9.2: a reader's bytes may be any number.
 func TestReadLong(t *testing.T) {
-	b, _ := Encode(long(4096))
+	b, _ := Encode(sample.LargeSchema(4096))
 	all := append([]byte{5, 8}, b[2:2+4*868]...)
 	for i := range 4 { // the same four fields, by other names
 		part := slices.Clone(b[2+868*i : 2+868*(i+1)])

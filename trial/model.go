@@ -1,4 +1,4 @@
-// Package trial is for tests alone: things that are written as bytes are held against a model, which reads these by the chapters' words.
+// Package trial is for tests alone: things that are written as bytes are held against a model, which reads these by the chapters' words, and things that are laid in their order likewise.
 package trial
 
 import (
